@@ -1,0 +1,1 @@
+"""Deeds of exchange in which each good is used exactly once."""

@@ -1,0 +1,28 @@
+"""Which plain values are numbers, sides and lists."""
+
+
+def is_integer(value):
+    """Whether the value is an integer; True and False are none."""
+    return isinstance(value, int) and not isinstance(value, bool)
+
+
+def is_number_below(value, many):
+    """Whether the value numbers one of so many things, counted from 0."""
+    return is_integer(value) and 0 <= value < many
+
+
+def is_side(value):
+    """Whether the value is one of the two sides."""
+    return is_number_below(value, 2)
+
+
+def is_list(value):
+    """Whether the value is a list, or a tuple that may stand for one."""
+    return isinstance(value, (list, tuple))
+
+
+def is_order(value, many):
+    """Whether the list or tuple has the numbers of so many things, each once."""
+    if len(value) != many or not all([is_integer(number) for number in value]):
+        return False
+    return sorted(value) == list(range(many))

@@ -1,0 +1,267 @@
+"""What several tests need: deeds to test with, and plain slow ways to tell what the document says.
+
+Nothing here uses the program but the class Deed, by which right steps are known.
+"""
+import itertools
+import random
+
+from alldeeds.deeds import Deed
+from alldeeds.errors import DeedError
+
+COUNTERS = {"good": "counter", "both": "between", "offered": "chosen"}
+COUNTERS.update({COUNTERS[word]: word for word in list(COUNTERS)})
+FORKS = ("offered", "chosen")
+
+
+def good(name):
+    return ("good", name)
+
+
+def anti(name):
+    return ("counter", name)
+
+
+def link(name):
+    return ("link", name)
+
+
+def nested(form, times, word="both"):
+    """The form, so many times the left half of a form with the word, beside a good."""
+    for _ in range(times):
+        form = (word, form, ("good", "z"))
+    return form
+
+
+def bushy(depth, word="both", leaf=("good", "a")):
+    """The form of this depth in which both halves are always the same."""
+    for _ in range(depth):
+        leaf = (word, leaf, leaf)
+    return leaf
+
+
+def counter_of(form):
+    if len(form) == 2:
+        return (COUNTERS[form[0]], form[1])
+    return (COUNTERS[form[0]], counter_of(form[1]), counter_of(form[2]))
+
+
+def names_in(form):
+    if len(form) == 2:
+        return {form[1]}
+    return names_in(form[1]) | names_in(form[2])
+
+
+def raised(call, *told, **named):
+    """The class of the error that the call raises and its fields; fails if it raises none."""
+    try:
+        result = call(*told, **named)
+    except DeedError as error:
+        return (type(error).__name__, vars(error))
+    raise AssertionError(f"nothing was raised, but {str(result)[:200]} returned")
+
+
+def form_entries(form, sets):
+    """All entries of a form over sets."""
+    if len(form) == 2:
+        return list(range(sets.get(form[1], 1)))
+    left, right = form_entries(form[1], sets), form_entries(form[2], sets)
+    if form[0] in FORKS:
+        return [(0, x) for x in left] + [(1, y) for y in right]
+    return [(x, y) for x in left for y in right]
+
+
+def steps_meaning(steps, sets):
+    """The list of the entries of a deed, made step by step, and its ends."""
+    word = steps[0]
+    if word == "link":
+        return [(t, t) for t in range(sets.get(steps[1], 1))]
+    one = steps_meaning(steps[1], sets)
+    if word == "turn":
+        return [tuple(x[k] for k in steps[2]) for x in one]
+    if word == "between":
+        i, j = steps[2:]
+        return [tuple(t for k, t in enumerate(x) if k not in (i, j)) + ((x[i], x[j]),) for x in one]
+    if word == "choose":
+        i, side = steps[2:4]
+        return [x[:i] + x[i + 1:] + ((side, x[i]),) for x in one]
+    other = steps_meaning(steps[2], sets)
+    i, j = steps[3:]
+    if word == "offer":
+        first = [x[:i] + x[i + 1:] + ((0, x[i]),) for x in one]
+        return first + [y[:j] + y[j + 1:] + ((1, y[j]),) for y in other]
+    if word == "both":
+        return [x[:i] + x[i + 1:] + y[:j] + y[j + 1:] + ((x[i], y[j]),) for x in one for y in other]
+    return [x[:i] + x[i + 1:] + y[:j] + y[j + 1:] for x in one for y in other if x[i] == y[j]]
+
+
+def deed_meaning(deed):
+    """The set of the entries of a deed over two things for each good of its ends."""
+    sets = {name: 2 for end in deed.ends for name in names_in(end)}
+    return set(steps_meaning(deed.steps, sets))
+
+
+def leaf_list(ends):
+    """The leaves of the ends, each with the forks above it."""
+    found = []
+    count = [0]
+
+    def walk(form, above):
+        if len(form) == 2:
+            found.append((form, above))
+            return
+        if form[0] in FORKS:
+            number = count[0]
+            count[0] += 1
+            walk(form[1], above + ((number, 0),))
+            walk(form[2], above + ((number, 1),))
+        else:
+            walk(form[1], above)
+            walk(form[2], above)
+
+    for end in ends:
+        walk(end, ())
+    return found
+
+
+def fork_list(ends):
+    """The words of the forks of the ends, each with the forks above it."""
+    found = []
+
+    def walk(form, above):
+        if len(form) == 2:
+            return
+        if form[0] in FORKS:
+            number = len(found)
+            found.append((form[0], above))
+            walk(form[1], above + ((number, 0),))
+            walk(form[2], above + ((number, 1),))
+        else:
+            walk(form[1], above)
+            walk(form[2], above)
+
+    for end in ends:
+        walk(end, ())
+    return found
+
+
+def all_choices(ends):
+    """The ascending list of all choices of the ends."""
+    forks = fork_list(ends)
+    found = set()
+    for sides in itertools.product((0, 1), repeat=len(forks)):
+        found.add(tuple((k, sides[k]) for k, (_, above) in enumerate(forks) if all(sides[f] == s for f, s in above)))
+    return sorted(found)
+
+
+def met(ends, choice):
+    """The numbers of the leaves that a choice meets."""
+    return [k for k, (_, above) in enumerate(leaf_list(ends)) if set(above) <= set(choice)]
+
+
+def all_links(ends, choice):
+    """All links that a wiring of the ends with this choice may have."""
+    leaves = leaf_list(ends)
+
+    def pairings(numbers):
+        if not numbers:
+            yield ()
+            return
+        first = numbers[0]
+        for other in numbers[1:]:
+            if counter_of(leaves[first][0]) == leaves[other][0]:
+                for rest in pairings([k for k in numbers[1:] if k != other]):
+                    yield ((first, other),) + rest
+
+    return sorted(pairings(met(ends, choice)))
+
+
+def every_wiring(ends):
+    """The ascending list of all wirings of the ends."""
+    return sorted((choice, links) for choice in all_choices(ends) for links in all_links(ends, choice))
+
+
+def entry_at(form, sides, things, counts):
+    """The entry of a form; counts holds how many leaves and forks stand ahead of it."""
+    if len(form) == 2:
+        counts[0] += 1
+        return things.get(counts[0] - 1, 0)
+    if form[0] in FORKS:
+        number = counts[1]
+        counts[1] += 1
+        both = [entry_at(form[1], sides, things, counts), entry_at(form[2], sides, things, counts)]
+        return (sides[number], both[sides[number]]) if number in sides else None
+    left = entry_at(form[1], sides, things, counts)
+    return (left, entry_at(form[2], sides, things, counts))
+
+
+def wiring_entries(ends, wiring, things=2):
+    """The list of the entries over so many things that fit a wiring."""
+    choice, links = wiring
+    found = []
+    for told in itertools.product(range(things), repeat=len(links)):
+        at = {}
+        for thing, (i, j) in zip(told, links):
+            at[i] = at[j] = thing
+        counts = [0, 0]
+        found.append(tuple(entry_at(end, dict(choice), at, counts) for end in ends))
+    return found
+
+
+def wirings_meaning(ends, wirings):
+    """The set of the entries over two things that fit one of the wirings."""
+    return {entry for wiring in wirings for entry in wiring_entries(ends, wiring)}
+
+
+def random_form(chance, depth, names="ab"):
+    if depth == 0 or chance.random() < 0.3:
+        return (chance.choice(("good", "counter")), chance.choice(names))
+    word = chance.choice(("both", "between", "offered", "chosen"))
+    return (word, random_form(chance, depth - 1, names), random_form(chance, depth - 1, names))
+
+
+def random_step(chance, pool, names):
+    """Steps made of deeds of the pool, right or wrong."""
+    one, other = chance.choice(pool), chance.choice(pool)
+    i, j = chance.randrange(len(one.ends)), chance.randrange(len(other.ends))
+    word = chance.choice(("both", "between", "offer", "choose", "hand", "hand", "turn", "offer", "between"))
+    if word == "both":
+        return ("both", one.steps, other.steps, i, j)
+    if word == "between":
+        return ("between", one.steps, i, chance.randrange(len(one.ends)))
+    if word == "choose":
+        return ("choose", one.steps, i, chance.randrange(2), random_form(chance, 1, names))
+    if word == "turn":
+        order = list(range(len(one.ends)))
+        chance.shuffle(order)
+        return ("turn", one.steps, tuple(order))
+    fitting = []
+    for other in pool:
+        for i, end in enumerate(one.ends):
+            for j, there in enumerate(other.ends):
+                rest = one.ends[:i] + one.ends[i + 1:]
+                if word == "hand" and counter_of(end) == there:
+                    fitting.append((word, one.steps, other.steps, i, j))
+                if word == "offer" and rest == other.ends[:j] + other.ends[j + 1:]:
+                    fitting.append((word, one.steps, other.steps, i, j))
+    if word == "hand":
+        larger = [steps for steps in fitting if len(one.ends[steps[3]]) == 3]
+        fitting = larger or fitting
+    return chance.choice(fitting) if fitting else ("link", chance.choice(names))
+
+
+def random_deeds(seed, many, names="ab", most_steps=24, most_leaves=9):
+    """So many deeds with all kinds of steps, not too great to be looked at step by step."""
+    chance = random.Random(seed)
+    pool = [Deed(link(name)) for name in names]
+    tried = 0
+    while len(pool) < many and tried < 100 * many:
+        tried += 1
+        steps = random_step(chance, pool, names)
+        try:
+            deed = Deed(steps)
+        except DeedError:
+            continue
+        leaves = sum(len(leaf_list([end])) for end in deed.ends)
+        if deed.size() <= most_steps and leaves <= most_leaves and deed not in pool:
+            pool.append(deed)
+    return pool
