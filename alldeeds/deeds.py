@@ -31,7 +31,12 @@ class Deed:
 
     def size(self):
         """How many steps it has."""
-        return len(steps_in_order(self.steps, MOST_STEPS))
+        return len(steps_of(self))
+
+
+def steps_of(deed):
+    """The list of all steps of the Deed in the order of their numbers."""
+    return steps_in_order(deed.steps, MOST_STEPS)
 
 
 def check_deed(deed):
@@ -50,16 +55,16 @@ def step_of(deed, at):
     """The Deed of the step with this number."""
     check_deed(deed)
     check_step_number(deed, at)
-    return Deed(steps_in_order(deed.steps, MOST_STEPS)[at - 1])
+    return Deed(steps_of(deed)[at - 1])
 
 
-def rebuilt(steps, change):
-    """The steps in which each step, its steps within rebuilt ahead, is what the change tells for it."""
-    found = steps_in_order(steps, MOST_STEPS)
+def rebuilt(deed, change):
+    """The Deed in which each step, its steps within rebuilt ahead, is what the change tells for it."""
+    found = steps_of(deed)
     made = []
     for at, within in enumerate(numbers_within(found)):
         made.append(change(at + 1, with_steps(found[at], [made[number] for number in within])))
-    return made[-1]
+    return Deed(made[-1])
 
 
 def replaced(deed, at, other):
@@ -69,7 +74,7 @@ def replaced(deed, at, other):
     check_deed(other)
     if step_of(deed, at).ends != other.ends:
         raise Unlike()
-    return Deed(rebuilt(deed.steps, lambda number, step: other.steps if number == at else step))
+    return rebuilt(deed, lambda number, step: other.steps if number == at else step)
 
 
 def plain_deed(form):
@@ -84,7 +89,7 @@ def check_replacing(deed, forms):
     """Raises TooDeep or TooMany if a step with the forms in it would have no ends."""
     depths = {name: depth_of(forms[name]) for name in forms}
     counts = {name: leaf_count(forms[name]) for name in forms}
-    told = ends_in_order(steps_in_order(deed.steps, MOST_STEPS))
+    told = ends_in_order(steps_of(deed))
     for ends in told:
         if max([depth_with(end, depths) for end in ends]) > DEEPEST:
             raise TooDeep(DEEPEST)
@@ -107,4 +112,4 @@ def deed_with_forms(deed, forms):
     check_deed(deed)
     check_forms(forms)
     check_replacing(deed, forms)
-    return Deed(rebuilt(deed.steps, lambda number, step: step_with(step, forms)))
+    return rebuilt(deed, lambda number, step: step_with(step, forms))

@@ -1,16 +1,14 @@
 """Texts of deeds: a line for each step."""
 
 from alldeeds.checks import check_text
-from alldeeds.deeds import MOST_STEPS, Deed, check_deed
+from alldeeds.deeds import Deed, check_deed, steps_of
 from alldeeds.errors import NotAText
-from alldeeds.formparts import DIGITS
 from alldeeds.formreading import take_form
 from alldeeds.formtexts import form_text
-from alldeeds.reading import Reader
-from alldeeds.stepping import numbers_within, steps_in_order
+from alldeeds.reading import SIDE_WORDS, Reader
+from alldeeds.stepping import numbers_within
 
 LAST_END = 39
-SIDE_WORDS = ("left", "right")
 WORDS_OF_NONE = ("link",)
 WORDS_OF_ONE = ("link", "between", "choose", "turn")
 WORDS_OF_TWO = ("link", "between", "choose", "turn", "both", "offer", "hand")
@@ -33,7 +31,7 @@ def step_line(step, numbers):
 def deed_text(deed):
     """The text of the deed."""
     check_deed(deed)
-    found = steps_in_order(deed.steps, MOST_STEPS)
+    found = steps_of(deed)
     lines = []
     for at, within in enumerate(numbers_within(found)):
         lines.append(step_line(found[at], [number + 1 for number in within]) + "\n")
@@ -63,17 +61,15 @@ def take_end(reader):
 def take_order(reader):
     """The numbers of ends that stand next, at least one."""
     order = [take_end(reader)]
-    while reader.sees(" "):
-        reader.skip_spaces()
-        if reader.sees(DIGITS):
-            order.append(reader.take_number(LAST_END))
+    while reader.finds_more():
+        order.append(reader.take_number(LAST_END))
     return tuple(order)
 
 
 def take_chosen(reader):
     """The side and the form of a choose that stand next."""
     reader.take_spaces()
-    side = SIDE_WORDS.index(reader.take_word(SIDE_WORDS))
+    side = reader.take_side()
     if not reader.sees("("):
         reader.take_spaces()
     # None, for a form that is too deep, makes a wrong step, as that form would

@@ -3,6 +3,8 @@
 from alldeeds.errors import NotAText
 from alldeeds.formparts import DIGITS, LETTERS, LONGEST_NAME
 
+SIDE_WORDS = ("left", "right")
+
 
 class Reader:
     """A text, and how much of it is read.
@@ -44,6 +46,17 @@ class Reader:
         """Reads spaces, at least one."""
         self.take(" ")
         self.skip_spaces()
+
+    def finds_more(self):
+        """Whether spaces and then a number stand next; the spaces are read in any case."""
+        if not self.sees(" "):
+            return False
+        self.skip_spaces()
+        return self.sees(DIGITS)
+
+    def take_side(self):
+        """The side that stands next as a word."""
+        return SIDE_WORDS.index(self.take_word(SIDE_WORDS))
 
     def take_name(self):
         """The name that stands next."""

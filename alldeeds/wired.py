@@ -1,8 +1,7 @@
 """The wirings of a deed."""
 
-from alldeeds.deeds import MOST_STEPS, check_deed
+from alldeeds.deeds import check_deed, steps_of
 from alldeeds.renumbering import renumbered
-from alldeeds.stepping import steps_in_order
 from alldeeds.strands import strands_of
 from alldeeds.wirings import Wirings
 
@@ -10,7 +9,7 @@ from alldeeds.wirings import Wirings
 def wirings_of(deed):
     """The Wirings of the deed."""
     check_deed(deed)
-    strands = strands_of(steps_in_order(deed.steps, MOST_STEPS))
+    strands = strands_of(steps_of(deed))
     leaves, forks = {}, {}
     for end in strands.ends:
         for leaf in end[0]:

@@ -4,11 +4,10 @@ from alldeeds.checks import check_text
 from alldeeds.formparts import DIGITS
 from alldeeds.formreading import take_ends, told_ends
 from alldeeds.formtexts import ends_text
-from alldeeds.reading import Reader
+from alldeeds.reading import SIDE_WORDS, Reader
 from alldeeds.wirings import Wirings, check_wirings
 
 GREATEST = 9999
-SIDE_WORDS = ("left", "right")
 
 
 def wiring_line(wiring):
@@ -36,7 +35,7 @@ def take_side(reader):
     """The number of a fork and the side that stand next."""
     fork = reader.take_number(GREATEST)
     reader.take_spaces()
-    return (fork, SIDE_WORDS.index(reader.take_word(SIDE_WORDS)))
+    return (fork, reader.take_side())
 
 
 def take_choice(reader):
@@ -66,10 +65,8 @@ def take_wiring(reader):
     choice = take_choice(reader)
     reader.take_spaces()
     links = [take_link(reader)]
-    while reader.sees(" "):
-        reader.skip_spaces()
-        if reader.sees(DIGITS):
-            links.append(take_link(reader))
+    while reader.finds_more():
+        links.append(take_link(reader))
     return (choice, tuple(links))
 
 

@@ -6,7 +6,7 @@ import itertools
 import random
 
 from alldeeds.deeds import Deed
-from alldeeds.errors import DeedError
+from alldeeds.errors import DeedError, NotAText
 
 COUNTERS = {"good": "counter", "both": "between", "offered": "chosen"}
 COUNTERS.update({COUNTERS[word]: word for word in list(COUNTERS)})
@@ -100,48 +100,47 @@ def deed_meaning(deed):
     return set(steps_meaning(deed.steps, sets))
 
 
-def leaf_list(ends):
-    """The leaves of the ends, each with the forks above it."""
-    found = []
-    count = [0]
+def walked(ends):
+    """The leaves and the forks of the ends, both with the forks above them."""
+    leaves, forks = [], []
 
     def walk(form, above):
         if len(form) == 2:
-            found.append((form, above))
+            leaves.append((form, above))
             return
+        over = [above, above]
         if form[0] in FORKS:
-            number = count[0]
-            count[0] += 1
-            walk(form[1], above + ((number, 0),))
-            walk(form[2], above + ((number, 1),))
-        else:
-            walk(form[1], above)
-            walk(form[2], above)
+            over = [above + ((len(forks), side),) for side in (0, 1)]
+            forks.append((form[0], above))
+        walk(form[1], over[0])
+        walk(form[2], over[1])
 
     for end in ends:
         walk(end, ())
-    return found
+    return leaves, forks
+
+
+def leaf_list(ends):
+    """The leaves of the ends, each with the forks above it."""
+    return walked(ends)[0]
 
 
 def fork_list(ends):
     """The words of the forks of the ends, each with the forks above it."""
-    found = []
+    return walked(ends)[1]
 
-    def walk(form, above):
-        if len(form) == 2:
-            return
-        if form[0] in FORKS:
-            number = len(found)
-            found.append((form[0], above))
-            walk(form[1], above + ((number, 0),))
-            walk(form[2], above + ((number, 1),))
-        else:
-            walk(form[1], above)
-            walk(form[2], above)
 
-    for end in ends:
-        walk(end, ())
-    return found
+def check_each_place(case, read, text):
+    """Reads the text with a sign that never stands anywhere at each place, and each of its beginnings."""
+    for at in range(len(text)):
+        for sign in "?A\t.":
+            case.assertEqual(raised(read, text[:at] + sign + text[at:]), ("NotAText", {"at": at}))
+        try:
+            read(text[:at])
+        except NotAText as error:
+            case.assertEqual(error.at, at)
+        except DeedError:
+            pass
 
 
 def all_choices(ends):

@@ -4,9 +4,9 @@ import unittest
 
 from alldeeds.deeds import Deed, plain_deed, step_of
 from alldeeds.deedtexts import deed_text, read_deed
-from alldeeds.errors import DeedError, NotAText
+from alldeeds.errors import NotAText
 from alldeeds.formtexts import form_text, read_form
-from making import bushy, good, link, nested, raised, random_deeds
+from making import bushy, check_each_place, good, link, nested, raised, random_deeds
 
 LA, LB = link("a"), link("b")
 PAIR = ("both", LA, LB, 0, 0)
@@ -161,15 +161,7 @@ class LongestBeginnings(unittest.TestCase):
                  "offer 5 6 at 39 1\nbetween 7 at 12 20\nlink q\nhand 8 9 at 3 3\nchoose 10 at 1 right x\n"]
         texts += [shuffled_lines(deed, chance) for deed in random_deeds(24, 40)]
         for text in texts:
-            for at in range(len(text)):
-                for sign in "?A\t.":
-                    self.assertEqual(raised(read_deed, text[:at] + sign + text[at:]), ("NotAText", {"at": at}))
-                try:
-                    read_deed(text[:at])
-                except NotAText as error:
-                    self.assertEqual(error.at, at)
-                except DeedError:
-                    pass
+            check_each_place(self, read_deed, text)
 
     def test_beginnings_of_texts_stop_too_early(self):
         text = deed_text(Deed(("both", ("between", PAIR, 0, 1), PAIR, 1, 2)))

@@ -7,7 +7,7 @@ from alldeeds.formtexts import ends_text, read_ends
 from alldeeds.wired import wirings_of
 from alldeeds.wirelines import read_wirings, wirings_text
 from alldeeds.wirings import Wirings
-from making import anti, every_wiring, good, nested, raised, random_deeds
+from making import anti, check_each_place, every_wiring, good, nested, raised, random_deeds
 
 A = good("a")
 TEXT = "a & b, a~ + b~, c, c~\nat 0 left 1 left links 0-2 4-5\nat 0 right 1 right links 1-3 4-5\n"
@@ -105,15 +105,7 @@ class LongestBeginnings(unittest.TestCase):
         texts = [TEXT, " a&b ,a~ + b~\n  at  0 right 1  right  links 1-3 \nat 0 left 1 left links 0-2", "a,a~\nlinks 0-1  \n",
                  "(a*b)&c, d\nat 0 left links 0-9999 12-345 1000-10\n at 99 left 7 right 0 left links 0-0\n"]
         for text in texts:
-            for at in range(len(text)):
-                for sign in "?A\t.":
-                    self.assertEqual(raised(read_wirings, text[:at] + sign + text[at:]), ("NotAText", {"at": at}))
-                try:
-                    read_wirings(text[:at])
-                except NotAText as error:
-                    self.assertEqual(error.at, at)
-                except DeedError:
-                    pass
+            check_each_place(self, read_wirings, text)
 
     def test_whole_beginnings(self):
         text = "a, a~, b, b~\nlinks 0-1 2-3\nlinks 0-1 2-3\n"
