@@ -117,8 +117,6 @@ def take_steps(reader):
         reader.skip_spaces()
         if not reader.is_done():
             reader.take("\n")
-        elif len(unused) > 1:
-            raise NotAText(reader.at)
         if reader.is_done() and len(unused) == 1:
             return step
 

@@ -51,7 +51,7 @@ def is_met(place, sides):
 
 def fits_choice(layout, value):
     """Whether the value is a choice of the ends."""
-    if not isinstance(value, tuple) or len(value) > len(layout.forks):
+    if not isinstance(value, tuple):
         return False
     sides = {}
     last = -1

@@ -3,7 +3,7 @@
 A wrong step is told by None in the place of its ends.
 """
 
-from alldeeds.formparts import counter_of, fits_ends, fits_name
+from alldeeds.formparts import counter_of, fits_ends
 from alldeeds.values import is_number_below, is_order, is_side
 
 LENGTHS = {"link": 2, "both": 5, "between": 4, "offer": 5, "choose": 5, "hand": 5, "turn": 3}
@@ -76,9 +76,7 @@ def without(ends, at):
 
 
 def link_ends(step, within):
-    """The ends of a link."""
-    if not fits_name(step[1]):
-        return None
+    """The ends of a link; whether its name is one is seen by the whole ends."""
     return (("good", step[1]), ("counter", step[1]))
 
 
@@ -165,7 +163,7 @@ def ends_of_step(step, within):
         return None
     maker = MAKERS[step[0]]
     ends = maker(step, within)
-    if ends is None or not fits_ends(ends):
+    if not fits_ends(ends):
         return None
     return ends
 

@@ -1,7 +1,6 @@
 """Taking Wirings apart at one of their ends."""
 
 from alldeeds.errors import BadValue, CannotTake
-from alldeeds.formparts import counter_of, is_leaf
 from alldeeds.layouts import Layout
 from alldeeds.renumbering import number_places
 from alldeeds.values import is_number_below
@@ -13,8 +12,8 @@ PLAIN_WIRINGS = (((), ((0, 1),)),)
 def is_plain_link(wirings):
     """Whether it is a good and its counter, in any order, with their one wiring."""
     check_wirings(wirings)
-    ends = wirings.ends
-    return len(ends) == 2 and is_leaf(ends[0]) and counter_of(ends[0]) == ends[1] and wirings.wirings == PLAIN_WIRINGS
+    # a wiring with the one link 0-1 has no other leaf and no fork, so two ends are a good and its counter
+    return len(wirings.ends) == 2 and wirings.wirings == PLAIN_WIRINGS
 
 
 def with_taken_side(wirings, fork, side):

@@ -23,6 +23,4 @@ def is_list(value):
 
 def is_order(value, many):
     """Whether the list or tuple has the numbers of so many things, each once."""
-    if len(value) != many or not all([is_integer(number) for number in value]):
-        return False
-    return sorted(value) == list(range(many))
+    return all([is_integer(number) for number in value]) and sorted(value) == list(range(many))

@@ -494,6 +494,11 @@ class WithForms(unittest.TestCase):
         self.assertEqual(raised(deed_with_forms, Deed(LA), {"a": ("both", twenty, A)}), ("TooMany", {"most": 40}))
         self.assertEqual(raised(deed_with_forms, Deed(PAIR), {"a": twenty}), ("TooMany", {"most": 40}))
         self.assertEqual(raised(deed_with_forms, Deed(LA), {"a": bushy(12)}), ("TooMany", {"most": 40}))
+        row = LA
+        for _ in range(19):
+            row = ("both", row, LA, 0, 0)
+        self.assertEqual(deed_with_forms(Deed(row), {"b": bushy(12)}), Deed(row))
+        self.assertEqual(raised(deed_with_forms, Deed(row), {"a": bushy(1)}), ("TooMany", {"most": 40}))
         chosen = Deed(("choose", LA, 0, 0, B))
         self.assertEqual(len(deed_with_forms(chosen, {"b": bushy(5)}).ends), 2)
         self.assertEqual(raised(deed_with_forms, chosen, {"b": bushy(6)}), ("TooMany", {"most": 40}))

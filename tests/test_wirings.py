@@ -149,6 +149,11 @@ class WrongArguments(unittest.TestCase):
                     self.assertEqual(kind, "BadValue")
                     self.assertIs(fields["value"], value)
 
+    def test_a_leaf_in_two_links(self):
+        for text, links in [("a, a~, a", ((0, 1), (1, 2))), ("a, a, a~", ((0, 2), (1, 2))), ("a, a~, a~", ((0, 1), (0, 2))),
+                            ("a, a~, a, a~", ((0, 1), (1, 2), (2, 3)))]:
+            self.assertEqual(raised(Wirings, read_ends(text), [((), links)]), ("BadValue", {"value": ((), links)}))
+
     def test_forty_leaves(self):
         ends = [A] * 20 + [anti("a")] * 20
         wiring = ((), tuple((k, 39 - k) for k in range(20)))
