@@ -8,13 +8,18 @@ from alldeeds.wirings import check_wirings
 MOST_BETWEENS = 12
 
 
+def as_tuple(value):
+    """The value, a list as a tuple, so that later changes of the list change nothing."""
+    return tuple(value) if isinstance(value, list) else value
+
+
 class BadCut:
     """A cut that does not leave one tree, with a ring and a loose piece that it leaves, or None for these."""
 
     def __init__(self, cut, ring, loose):
-        self.cut = cut
-        self.ring = ring
-        self.loose = loose
+        self.cut = as_tuple(cut)
+        self.ring = as_tuple(ring)
+        self.loose = as_tuple(loose)
 
 
 def picture_of(wirings, number):

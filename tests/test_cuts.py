@@ -252,6 +252,11 @@ class Cuts(unittest.TestCase):
         self.assertEqual((made.cut, made.ring, made.loose), ((((0,), 1),), None, ((1,),)))
         self.assertFalse(made == BadCut((((0,), 1),), None, ((1,),)))
         self.assertTrue(made == made)
+        ring, loose = [(0,), (0, 0), (0, 1)], [(1,)]
+        made = BadCut((), ring, loose)
+        ring.clear()
+        loose.append((2,))
+        self.assertEqual((list(made.ring), list(made.loose)), ([(0,), (0, 0), (0, 1)], [(1,)]))
 
     def test_equal_calls(self):
         wirings = Wirings(read_ends("a * a~, b | b~, (c | c~) * d, d~"), [((), ((0, 1), (2, 3), (4, 5), (6, 7)))])
