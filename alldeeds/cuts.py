@@ -2,15 +2,10 @@
 
 from alldeeds.errors import BadValue, TooMany
 from alldeeds.pictures import Picture, pieces, ring_of
-from alldeeds.values import is_integer, is_number_below, is_side
+from alldeeds.values import as_tuple, is_integer, is_number_below, is_side
 from alldeeds.wirings import check_wirings
 
 MOST_BETWEENS = 12
-
-
-def as_tuple(value):
-    """The value, a list as a tuple, so that later changes of the list change nothing."""
-    return tuple(value) if isinstance(value, list) else value
 
 
 class BadCut:

@@ -5,21 +5,23 @@ from alldeeds.values import is_number_below, is_side
 
 
 class Place:
-    """A form that stands in the ends: its node, its number as a leaf or fork, the forks above."""
+    """A form that stands in the ends: its node, its number as a leaf or fork and among all places, the forks above."""
 
-    def __init__(self, form, node, above):
+    def __init__(self, form, node, above, at):
         self.form = form
         self.word = form[0]
         self.node = node
         self.above = above
+        self.at = at
         self.number = -1
         self.halves = ()
 
 
 class Layout:
-    """All places of the ends; leaves and forks stand in reading order, which numbers them."""
+    """All places of the ends; places, leaves and forks stand in reading order, which numbers them."""
 
     def __init__(self, ends):
+        self.places = []
         self.leaves = []
         self.forks = []
         self.roots = []
@@ -28,7 +30,8 @@ class Layout:
 
     def laid(self, form, node, above):
         """The place of the form, with all that is within."""
-        place = Place(form, node, above)
+        place = Place(form, node, above, len(self.places))
+        self.places.append(place)
         if is_leaf(form):
             place.number = len(self.leaves)
             self.leaves.append(place)
@@ -63,6 +66,18 @@ def fits_choice(layout, value):
         last = pair[0]
         sides[last] = pair[1]
     return all([is_met(fork, sides) == (fork.number in sides) for fork in layout.forks])
+
+
+def offered_numbers(layout):
+    """The ascending list of the numbers of the forks that are offered."""
+    return [fork.number for fork in layout.forks if fork.word == "offered"]
+
+
+def fits_asking(layout, value):
+    """Whether the value is an asking of the ends."""
+    if not isinstance(value, tuple) or len(value) != len(offered_numbers(layout)):
+        return False
+    return all([is_side(side) for side in value])
 
 
 def met_numbers(layout, choice):

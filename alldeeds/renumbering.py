@@ -1,4 +1,17 @@
-"""Wirings whose leaves and forks get other numbers."""
+"""Leaves and forks that get other numbers, and their wirings with them."""
+
+
+class Numbers:
+    """Numbers for leaves and forks, none of which is told twice."""
+
+    def __init__(self):
+        self.told = 0
+
+    def fresh(self, many):
+        """So many new numbers."""
+        start = self.told
+        self.told += many
+        return tuple(range(start, self.told))
 
 
 def ascending_pair(one, other):

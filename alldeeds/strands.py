@@ -7,6 +7,7 @@ moves ends need not look at the wirings; choices and links are in no order.
 from alldeeds.errors import TooMany
 from alldeeds.formparts import fork_count, leaf_count
 from alldeeds.joining import handed_wirings, matches, opposites
+from alldeeds.renumbering import Numbers
 from alldeeds.stepping import steps_within, taken_from
 
 MOST_WIRINGS = 2000
@@ -18,19 +19,6 @@ class Strands:
     def __init__(self, ends, wirings):
         self.ends = ends
         self.wirings = wirings
-
-
-class Numbers:
-    """Numbers for leaves and forks, none of which is told twice."""
-
-    def __init__(self):
-        self.told = 0
-
-    def fresh(self, many):
-        """So many new numbers."""
-        start = self.told
-        self.told += many
-        return tuple(range(start, self.told))
 
 
 def check_many(many):

@@ -6,6 +6,11 @@ def is_integer(value):
     return isinstance(value, int) and not isinstance(value, bool)
 
 
+def is_whole(value):
+    """Whether the value is a whole number."""
+    return is_integer(value) and value >= 0
+
+
 def is_number_below(value, many):
     """Whether the value numbers one of so many things, counted from 0."""
     return is_integer(value) and 0 <= value < many
@@ -24,3 +29,8 @@ def is_list(value):
 def is_order(value, many):
     """Whether the list or tuple has the numbers of so many things, each once."""
     return all([is_integer(number) for number in value]) and sorted(value) == list(range(many))
+
+
+def as_tuple(value):
+    """The value, a list as a tuple, so that later changes of the list change nothing."""
+    return tuple(value) if isinstance(value, list) else value

@@ -146,6 +146,145 @@ raises CannotTake(end=1)
 ()
 """
 
+BACK = r"""
+>>> from alldeeds.back import comes_of_deed, deed_of, stuck_at
+>>> deed_of(Wirings((("counter", "a"), ("good", "a")), [((), ((0, 1),))])).steps
+('turn', ('link', 'a'), (1, 0))
+>>> deed_of(Wirings((("between", ("good", "a"), ("counter", "a")),), [((), ((0, 1),))])).steps
+('between', ('link', 'a'), 0, 1)
+>>> ring = Wirings((("both", ("good", "a"), ("counter", "a")),), [((), ((0, 1),))])
+>>> [stuck_at(ring).ends, comes_of_deed(ring), comes_of_deed(some)]
+[(('both', ('good', 'a'), ('counter', 'a')),), False, True]
+"""
+
+ORDERS = r"""
+>>> from alldeeds.orders import count_orders, first_order
+>>> count_orders(wirings_of(Deed(("between", ("between", ("both", ("link", "a"), ("link", "b"), 0, 0), 0, 1), 0, 1))))
+1
+>>> first_order(some)
+(0, (1, (0, ()), (0, ())), ())
+>>> count_orders(crosswise)
+0
+"""
+
+HANDING = r"""
+>>> from alldeeds.handing import handed
+>>> link = Wirings((("good", "a"), ("counter", "a")), [((), ((0, 1),))])
+>>> handed(link, link, 1, 0) == link
+True
+>>> offer = Wirings(read_ends("a~, a & a"), [(((0, 0),), ((0, 1),)), (((0, 1),), ((0, 2),))])
+>>> choose = Wirings(read_ends("a~ + a~, a"), [(((0, 1),), ((1, 2),))])
+>>> [ends_text(handed(offer, choose, 1, 0).ends), handed(offer, choose, 1, 0).wirings]
+['a~, a', (((), ((0, 1),)),)]
+>>> handed(offer, choose, 0, 0)
+raises BadValue(value=0)
+"""
+
+ROWS = r"""
+>>> from alldeeds.rows import joined_row, midways
+>>> three = Deed(("both", ("both", ("link", "a"), ("link", "b"), 0, 0), ("link", "c"), 2, 0))
+>>> middles, row = midways(three, ((0,), (1, 2), (3,)))
+>>> [ends_text(three.ends), form_text(middles[0]), len(middles), ends_text(row[0].ends), ends_text(joined_row(row).ends)]
+['a~, b~, c~, (a * b) * c', 'a', 2, 'a~, a', 'a~, b~, c~, (a * b) * c']
+>>> joined_row((three, three))
+raises Unlike()
+"""
+
+REDUCING = r"""
+>>> from alldeeds.reducing import ready_hands, reduced, without_hands
+>>> twice = Deed(("hand", ("link", "a"), ("link", "a"), 1, 0))
+>>> [ready_hands(twice), reduced(twice, 3).steps, without_hands(twice) == (Deed(("link", "a")), 1)]
+[(3,), ('link', 'a'), True]
+>>> pair = ("both", ("link", "a"), ("link", "b"), 0, 0)
+>>> deed = Deed(("hand", pair, ("between", pair, 0, 1), 2, 1))
+>>> [ends_text(deed.ends), ready_hands(deed), reduced(deed, 8).steps]
+['a~, b~, a * b', (8,), ('hand', ('link', 'a'), ('hand', ('link', 'b'), ('both', ('link', 'a'), ('link', 'b'), 0, 0), 0, 1), 0, 1)]
+>>> [without_hands(deed)[0].steps == pair, without_hands(deed)[1]]
+[True, 3]
+>>> reduced(deed, 7)
+raises BadValue(value=7)
+"""
+
+RUNS = r"""
+>>> from alldeeds.runs import answer, links_met, walk
+>>> offer = ("offer", ("link", "a"), ("link", "a"), 0, 0)
+>>> deed = Deed(("hand", offer, ("choose", ("link", "a"), 1, 1, ("counter", "a")), 1, 1))
+>>> [ends_text(deed.ends), answer(deed, ()).wiring, answer(deed, ()).hidden, links_met(deed, ())]
+['a~, a', ((), ((0, 1),)), {6: ((0, 1),)}, (2, 4)]
+>>> [walk(deed, (), 0).stations, walk(deed, (), 0).leaf, walk(deed, (), 1).stations]
+[((2, 1), (4, 1)), 1, ((4, 0), (2, 0))]
+>>> walk(Deed(offer), (1,), 1)
+raises BadValue(value=1)
+"""
+
+ENTRIES = r"""
+>>> from alldeeds.entries import all_entries, choice_of, entry_with, is_entry, things_of
+>>> form, b = read_form("a & (b * a~)"), ("good", "b")
+>>> [all_entries(form, {"a": 2, "b": 1}), is_entry(form, {"a": 2, "b": 1}, (1, (0, 2))), is_entry(form, {"a": 3, "b": 1}, (1, (0, 2)))]
+[[(0, 0), (0, 1), (1, (0, 0)), (1, (0, 1))], False, True]
+>>> [choice_of([form, b], ((1, (0, 2)), 4)), things_of([form, b], ((1, (0, 2)), 4))]
+[((0, 1),), ((1, 0), (2, 2), (3, 4))]
+>>> entry_with([form, b], ((0, 0),), [(3, 4), (0, 7)])
+((0, 7), 4)
+"""
+
+MEANINGS = r"""
+>>> from alldeeds.meanings import entry_count, fits, joined_meaning, meaning, meaning_of
+>>> ends = [("offered", ("good", "a"), ("good", "a")), ("counter", "a")]
+>>> pick = Wirings(ends, [(((0, 0),), ((0, 2),)), (((0, 1),), ((1, 2),))])
+>>> [meaning_of(pick, {"a": 2}), entry_count(pick, {"a": 10 ** 30}) == 2 * 10 ** 30]
+[[((0, 0), 0), ((0, 1), 1), ((1, 0), 0), ((1, 1), 1)], True]
+>>> [fits(pick, ((1, 5), 5)), fits(pick, ((1, 5), 6))]
+[((((0, 1),), ((1, 2),)),), ()]
+>>> joined_meaning([(0, 0), (1, 1), (0, 1)], [(1, 7), (2, 8)], 1, 0)
+[(0, 7), (1, 7)]
+>>> meaning(Deed(("both", ("link", "a"), ("link", "b"), 0, 0)), {"a": 1, "b": 2})
+[(0, 0, (0, 0)), (0, 1, (0, 1))]
+"""
+
+TOLDBACK = r"""
+>>> from alldeeds.toldback import is_single, told_back
+>>> [told_back(ends, meaning_of(pick, {"a": 2})) == pick, told_back(ends, [((0, 0), 0)]), told_back(ends, []) == Wirings(ends, []), is_single(pick)]
+[True, None, True, True]
+"""
+
+SEARCH = r"""
+>>> from alldeeds.search import all_wirings, count_unlike, has_deed, least_choices, most_choices, some_deed
+>>> [count_unlike(read_ends(text)) for text in ["a, a~", "a, a", "a * b, a~, b~", "(a | a~) | (a * a~)", "a, a, a~ * a~", "a & a, a~", "a, a~ + a~", "a & a, a~ + a~"]]
+[1, 0, 1, 1, 2, 1, 2, 4]
+>>> [one.wirings for one in all_wirings(read_ends("a, a, a~ * a~"))]
+[(((), ((0, 2), (1, 3))),), (((), ((0, 3), (1, 2))),)]
+>>> [some_deed(read_ends("a * a~")), has_deed(read_ends("a, a~ + b")), has_deed(read_ends("a, a")), least_choices(read_ends("a & b, a~ + b~")), most_choices(read_ends("a, a~"))]
+[None, True, False, 2, 1]
+"""
+
+MIDWAY = r"""
+>>> from alldeeds.midway import crossing_goods, middle_form, midway, rejoined
+>>> deed = Deed(("both", ("link", "a"), ("link", "b"), 0, 0))
+>>> [ends_text(deed.ends), form_text(middle_form(deed, (0, 1))), form_text(middle_form(deed, (2,))), form_text(middle_form(deed, (0, 2)))]
+['a~, b~, a * b', 'a * b', 'a~ | b~', 'b~']
+>>> half = midway(deed, (2,))
+>>> [ends_text(half.one.ends), ends_text(half.other.ends), crossing_goods(deed, (0, 2))]
+['a * b, a~ | b~', 'a * b, a~, b~', ('b',)]
+>>> rejoined(deed, (0, 1)).steps[0]
+'hand'
+>>> offer = Deed(("offer", ("link", "a"), ("link", "a"), 1, 1))
+>>> [ends_text(offer.ends), form_text(middle_form(offer, (0,))), form_text(middle_form(offer, (1,)))]
+['a, a~ & a~', 'a~ & a~', 'a + a']
+>>> midway(offer, (0, 1))
+raises BadValue(value=(0, 1))
+"""
+
+ASKINGS = r"""
+>>> from alldeeds.askings import answering, askings_of, first_unanswered
+>>> ends = read_ends("a & a, a~")
+>>> both = Wirings(ends, [(((0, 0),), ((0, 2),)), (((0, 1),), ((1, 2),))])
+>>> [askings_of(ends), answering(both, (1,)), first_unanswered(both)]
+[((0,), (1,)), (1,), None]
+>>> first_unanswered(Wirings(ends, [(((0, 0),), ((0, 2),))]))
+((1,), ())
+"""
+
 SECTIONS = [
     ("[61] forms", FORMS),
     ("[62] formtexts", FORMTEXTS),
@@ -158,6 +297,18 @@ SECTIONS = [
     ("[69] likeness", LIKENESS),
     ("[70] cuts", CUTS),
     ("[71] taking", TAKING),
+    ("[72] back", BACK),
+    ("[73] orders", ORDERS),
+    ("[74] handing", HANDING),
+    ("[75] rows", ROWS),
+    ("[76] reducing", REDUCING),
+    ("[77] runs", RUNS),
+    ("[78] entries", ENTRIES),
+    ("[79] meanings", MEANINGS),
+    ("[80] toldback", TOLDBACK),
+    ("[81] search", SEARCH),
+    ("[85] midway", MIDWAY),
+    ("[87] askings", ASKINGS),
 ]
 
 
