@@ -1,12 +1,15 @@
 """What several tests need: deeds to test with, and plain slow ways to tell what the document says.
 
-Nothing here uses the program but the class Deed, by which right steps are known.
+Little here uses the program: the class Deed, by which right steps are known, the
+class Wirings, plain deeds, and texts of forms.
 """
 import itertools
 import random
 
-from alldeeds.deeds import Deed
+from alldeeds.deeds import Deed, plain_deed
 from alldeeds.errors import DeedError, NotAText
+from alldeeds.formtexts import read_ends, read_form
+from alldeeds.wirings import Wirings
 
 COUNTERS = {"good": "counter", "both": "between", "offered": "chosen"}
 COUNTERS.update({COUNTERS[word]: word for word in list(COUNTERS)})
@@ -248,10 +251,16 @@ def random_step(chance, pool, names):
     return chance.choice(fitting) if fitting else ("link", chance.choice(names))
 
 
-def random_deeds(seed, many, names="ab", most_steps=24, most_leaves=9):
-    """So many deeds with all kinds of steps, not too great to be looked at step by step."""
+def forked_deeds(seed, many, most_steps=40, most_leaves=10):
+    """So many deeds, of which many hand on forks, also such within one another."""
+    texts = ["a & a", "a & a~", "(a & a) & a", "a & (a + a)", "a * (a & a)", "(a & a) | (a + a)"]
+    return random_deeds(seed, many, "a", most_steps, most_leaves, [plain_deed(read_form(text)) for text in texts])
+
+
+def random_deeds(seed, many, names="ab", most_steps=24, most_leaves=9, begin=()):
+    """So many deeds with all kinds of steps, not too great to be looked at step by step, made of those to begin with."""
     chance = random.Random(seed)
-    pool = [Deed(link(name)) for name in names]
+    pool = [Deed(link(name)) for name in names] + list(begin)
     tried = 0
     while len(pool) < many and tried < 100 * many:
         tried += 1
@@ -264,3 +273,133 @@ def random_deeds(seed, many, names="ab", most_steps=24, most_leaves=9):
         if deed.size() <= most_steps and leaves <= most_leaves and deed not in pool:
             pool.append(deed)
     return pool
+
+
+def told(text, wirings):
+    """The Wirings of the ends of a text."""
+    return Wirings(read_ends(text), wirings)
+
+
+def leaf_places(ends):
+    """For each leaf the number of its end."""
+    return [k for k, end in enumerate(ends) for _ in leaf_list([end])]
+
+
+def fork_places(ends):
+    """For each fork the number of its end."""
+    return [k for k, end in enumerate(ends) for _ in fork_list([end])]
+
+
+def spread_out(ends, end):
+    """The ends with both halves of one in its place, and the numbers of its forks and of the others anew."""
+    return ends[:end] + (ends[end][1], ends[end][2]) + ends[end + 1:]
+
+
+def partings(ends, wirings):
+    """For each of the ends a number, the same one for those that the links hang together."""
+    at = list(range(len(ends)))
+    for _, links in wirings:
+        for i, j in links:
+            one, other = at[leaf_places(ends)[i]], at[leaf_places(ends)[j]]
+            at = [one if group == other else group for group in at]
+    return at
+
+
+def steps_within(steps):
+    """The steps directly within a right step."""
+    return steps[1:1 + {"link": 0, "both": 2, "offer": 2, "hand": 2}.get(steps[0], 1)]
+
+
+def all_steps(steps):
+    """The list of all steps, in the order of their numbers from 1 on."""
+    return [step for one in steps_within(steps) for step in all_steps(one)] + [steps]
+
+
+def has_hand(steps):
+    return any(step[0] == "hand" for step in all_steps(steps))
+
+
+def inversely(order):
+    """The order that takes an order back."""
+    return tuple(order.index(k) for k in range(len(order)))
+
+
+def node_numbers(ends):
+    """The numbers of the leaves and of the forks of the ends by their nodes."""
+    leaves, forks = {}, {}
+
+    def walk(form, node):
+        if len(form) == 2:
+            leaves[node] = len(leaves)
+            return
+        if form[0] in FORKS:
+            forks[node] = len(forks)
+        walk(form[1], node + (0,))
+        walk(form[2], node + (1,))
+
+    for at, end in enumerate(ends):
+        walk(end, (at,))
+    return leaves, forks
+
+
+def deed_sets(ends):
+    """All sets of wirings of deeds of the ends, as ascending tuples: each last step that a deed may have is tried.
+
+    Turns and hand ons need not be tried: without them there are deeds of all the same sets.
+    """
+    leaves, forks = node_numbers(ends)
+    known = {}
+
+    def form_at(node):
+        form = ends[node[0]]
+        for side in node[1:]:
+            form = form[1 + side]
+        return form
+
+    def with_pair(found, pair):
+        return {frozenset((choice | {pair}, links) for choice, links in rows) for rows in found}
+
+    def pairs(ones, others):
+        return {frozenset((c | d, k | m) for c, k in one for d, m in other) for one in ones for other in others}
+
+    def found_at(node, rest):
+        word = form_at(node)[0]
+        left, right = node + (0,), node + (1,)
+        if word == "between":
+            return sets(rest | {left, right})
+        if word in FORKS:
+            fork = forks[node]
+            sides = [with_pair(sets(rest | {half}), (fork, side)) for side, half in enumerate((left, right))]
+            if word == "chosen":
+                return sides[0] | sides[1]
+            return {one | other for one in sides[0] for other in sides[1]}
+        found = set()
+        if word == "both":
+            for many in range(len(rest) + 1):
+                for some in itertools.combinations(sorted(rest), many):
+                    found |= pairs(sets(frozenset(some) | {left}), sets(rest - set(some) | {right}))
+        return found
+
+    def sets(nodes):
+        if nodes not in known:
+            found = set()
+            if len(nodes) == 2:
+                one, other = nodes
+                if one in leaves and other in leaves and form_at(one) == counter_of(form_at(other)):
+                    pair = tuple(sorted((leaves[one], leaves[other])))
+                    found.add(frozenset([(frozenset(), frozenset([pair]))]))
+            for node in nodes:
+                found |= found_at(node, nodes - {node})
+            known[nodes] = found
+        return known[nodes]
+
+    whole = sets(frozenset((at,) for at in range(len(ends))))
+    return {tuple(sorted((tuple(sorted(c)), tuple(sorted(k))) for c, k in rows)) for rows in whole}
+
+
+def small_ends(chance, most_leaves, most_forks, names="a", depth=2):
+    """Some ends that are drawn, not too great."""
+    while True:
+        ends = tuple(random_form(chance, depth, names) for _ in range(chance.randrange(1, 4)))
+        if len(leaf_list(ends)) <= most_leaves and len(fork_list(ends)) <= most_forks:
+            return ends

@@ -8,29 +8,12 @@ from alldeeds.formtexts import read_ends
 from alldeeds.taking import is_plain_link, taken, takings
 from alldeeds.wired import wirings_of
 from alldeeds.wirings import Wirings
-from making import anti, every_wiring, fork_list, good, leaf_list, link, raised, random_deeds, random_form, wirings_meaning
+from making import (anti, every_wiring, fork_list, fork_places, good, leaf_list, leaf_places, link, partings, raised,
+                    random_deeds, random_form, spread_out, told, wirings_meaning)
 
 A, B = good("a"), good("b")
 LA, LB = link("a"), link("b")
 PLAIN = ((), ((0, 1),))
-
-
-def told(text, wirings):
-    return Wirings(read_ends(text), wirings)
-
-
-def leaf_places(ends):
-    """For each leaf the number of its end."""
-    return [k for k, end in enumerate(ends) for _ in leaf_list([end])]
-
-
-def fork_places(ends):
-    return [k for k, end in enumerate(ends) for _ in fork_list([end])]
-
-
-def spread_out(ends, end):
-    """The ends with both halves of one in its place, and the numbers of its forks and of the others anew."""
-    return ends[:end] + (ends[end][1], ends[end][2]) + ends[end + 1:]
 
 
 def kept(places, ends, wirings):
@@ -58,16 +41,6 @@ def fork_number(ends, end):
 def without_fork(wirings, fork):
     """The wirings whose choices no longer name a fork, those behind it being numbered anew."""
     return [(tuple((f - (f > fork), s) for f, s in choice if f != fork), links) for choice, links in wirings]
-
-
-def partings(ends, wirings):
-    """The two groups of places into which the links part them, of the last two places, or None."""
-    at = list(range(len(ends)))
-    for _, links in wirings:
-        for i, j in links:
-            one, other = at[leaf_places(ends)[i]], at[leaf_places(ends)[j]]
-            at = [one if group == other else group for group in at]
-    return at
 
 
 def expected(wirings, end):
