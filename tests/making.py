@@ -221,11 +221,15 @@ def random_form(chance, depth, names="ab"):
     return (word, random_form(chance, depth - 1, names), random_form(chance, depth - 1, names))
 
 
-def random_step(chance, pool, names):
+WORDS = ("both", "between", "offer", "choose", "hand", "hand", "turn", "offer", "between")
+WITHOUT_HANDS = tuple(word for word in WORDS if word != "hand")
+
+
+def random_step(chance, pool, names, words):
     """Steps made of deeds of the pool, right or wrong."""
     one, other = chance.choice(pool), chance.choice(pool)
     i, j = chance.randrange(len(one.ends)), chance.randrange(len(other.ends))
-    word = chance.choice(("both", "between", "offer", "choose", "hand", "hand", "turn", "offer", "between"))
+    word = chance.choice(words)
     if word == "both":
         return ("both", one.steps, other.steps, i, j)
     if word == "between":
@@ -257,14 +261,14 @@ def forked_deeds(seed, many, most_steps=40, most_leaves=10):
     return random_deeds(seed, many, "a", most_steps, most_leaves, [plain_deed(read_form(text)) for text in texts])
 
 
-def random_deeds(seed, many, names="ab", most_steps=24, most_leaves=9, begin=()):
+def random_deeds(seed, many, names="ab", most_steps=24, most_leaves=9, begin=(), words=WORDS):
     """So many deeds with all kinds of steps, not too great to be looked at step by step, made of those to begin with."""
     chance = random.Random(seed)
     pool = [Deed(link(name)) for name in names] + list(begin)
     tried = 0
     while len(pool) < many and tried < 100 * many:
         tried += 1
-        steps = random_step(chance, pool, names)
+        steps = random_step(chance, pool, names, words)
         try:
             deed = Deed(steps)
         except DeedError:

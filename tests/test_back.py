@@ -14,7 +14,7 @@ from alldeeds.wirings import Wirings
 from making import (all_steps, anti, deed_sets, every_wiring, fork_list, good, has_hand, link, partings, raised, random_deeds,
                     small_ends, spread_out, told)
 
-A, B = good("a"), good("b")
+A = good("a")
 LA, LB = link("a"), link("b")
 PAIR = ("both", LA, LB, 0, 0)
 PLAIN = ((), ((0, 1),))

@@ -11,7 +11,7 @@ from alldeeds.wired import wirings_of
 from alldeeds.wirings import Wirings
 from making import anti, bushy, every_wiring, good, leaf_list, link, raised, random_deeds, small_ends, told
 
-A, B = good("a"), good("b")
+A = good("a")
 LA, LB = link("a"), link("b")
 PLAIN = ((), ((0, 1),))
 
