@@ -255,10 +255,45 @@ def random_step(chance, pool, names, words):
     return chance.choice(fitting) if fitting else ("link", chance.choice(names))
 
 
+PLAIN_TEXTS = ["a * a", "a & a", "a & a~", "(a & a) & a", "a & (a + a)", "a * (a & a)", "(a & a) | (a + a)", "(a * b) & c"]
+
+
 def forked_deeds(seed, many, most_steps=40, most_leaves=10):
     """So many deeds, of which many hand on forks, also such within one another."""
-    texts = ["a & a", "a & a~", "(a & a) & a", "a & (a + a)", "a * (a & a)", "(a & a) | (a + a)"]
-    return random_deeds(seed, many, "a", most_steps, most_leaves, [plain_deed(read_form(text)) for text in texts])
+    return random_deeds(seed, many, "a", most_steps, most_leaves, [plain_deed(read_form(text)) for text in PLAIN_TEXTS[1:-1]])
+
+
+def handing_deeds(seed, many, most_steps=60, most_leaves=10):
+    """So many deeds that hand on all sorts of ends, made by all sorts of steps, also within one another."""
+    chance = random.Random(seed)
+    words = ("both", "between", "offer", "offer", "choose", "turn")
+    pool = random_deeds(seed, 400, "a", 20, 7, [plain_deed(read_form(text)) for text in PLAIN_TEXTS[:3]], words)
+    table = {}
+    for deed in pool:
+        put_ends(table, deed)
+    found = []
+    while len(found) < many:
+        word = chance.choice(list(COUNTERS))
+        one, i = chance.choice(chance.choice([table[form] for form in table if form[0] == word and counter_of(form) in table]))
+        other, j = chance.choice(table[counter_of(one.ends[i])])
+        steps = ("hand", one.steps, other.steps, i, j)
+        if found and chance.random() < 0.3:
+            steps = random_step(chance, chance.sample(found, min(len(found), 20)) + chance.sample(pool, 5), "a", words)
+        try:
+            deed = Deed(steps)
+        except DeedError:
+            continue
+        if deed.size() <= most_steps and len(leaf_list(deed.ends)) <= most_leaves and has_hand(steps):
+            found.append(deed)
+            if chance.random() < 0.3:
+                put_ends(table, deed)
+    return found
+
+
+def put_ends(table, deed):
+    """Puts the deed into the table with the number of each of its ends, by their forms."""
+    for number, form in enumerate(deed.ends):
+        table.setdefault(form, []).append((deed, number))
 
 
 def random_deeds(seed, many, names="ab", most_steps=24, most_leaves=9, begin=(), words=WORDS):
