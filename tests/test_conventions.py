@@ -3,7 +3,8 @@ import copy
 import inspect
 import unittest
 
-from alldeeds import cuts, deeds, deedtexts, ends, forms, formtexts, likeness, taking, wired, wirelines, wirings
+from alldeeds import (askings, back, cuts, deeds, deedtexts, ends, entries, forms, formtexts, handing, likeness, meanings, midway,
+                      orders, reducing, rows, runs, search, taking, toldback, wired, wirelines, wirings)
 from alldeeds.deeds import Deed
 from alldeeds.errors import BadValue, DeedError
 from alldeeds.formtexts import read_ends
@@ -20,6 +21,11 @@ TOLD = Wirings(ENDS, [(CHOICE, ((0, 3), (4, 5)))])
 MET = Wirings(read_ends("a | b, a~ * b~"), [((), ((0, 2), (1, 3)))])
 UNSOUND = Wirings(read_ends("a | a~, b | b~"), [((), ((0, 1), (2, 3)))])
 SPLIT = Wirings(read_ends("a * b, a~, b~"), [((), ((0, 2), (1, 3)))])
+LINK = wired.wirings_of(Deed(LA))
+TWICE = Deed(("hand", LA, LA, 1, 0))
+CHOOSE = Deed(("hand", OFFER.steps, ("choose", LA, 1, 1, anti("a")), 1, 1))
+ASKED = Deed(("both", CHOOSE.steps, OFFER.steps, 0, 0))
+PICKED = read_ends("a & a, a~ + a~")
 
 # each function and class with a right call, its arguments by their names
 CALLS = [
@@ -45,7 +51,37 @@ CALLS = [
     (cuts.leaves_one_tree, {"wirings": MET, "number": 0, "cut": (((0,), 1),)}), (cuts.bad_cut, {"wirings": UNSOUND, "number": 0}),
     (cuts.BadCut, {"cut": (), "ring": None, "loose": ((0,),)}), (cuts.first_unsound, {"wirings": UNSOUND}),
     (taking.is_plain_link, {"wirings": SPLIT}), (taking.takings, {"wirings": SPLIT}), (taking.taken, {"wirings": SPLIT, "end": 0}),
+    (back.comes_of_deed, {"wirings": SPLIT}), (back.stuck_at, {"wirings": UNSOUND}), (back.deed_of, {"wirings": SPLIT}),
+    (orders.count_orders, {"wirings": SPLIT}), (orders.first_order, {"wirings": SPLIT}),
+    (handing.handed, {"one": SPLIT, "other": LINK, "i": 1, "j": 0}),
+    (rows.midways, {"deed": PAIR, "lists": [(0,), [1], (2,)]}), (rows.joined_row, {"deeds": [Deed(LA), Deed(LA), TWICE]}),
+    (reducing.ready_hands, {"deed": TWICE}), (reducing.reduced, {"deed": TWICE, "at": 3}), (reducing.without_hands, {"deed": CHOOSE}),
+    (runs.answer, {"deed": ASKED, "asking": (1,)}), (runs.Answer, {"wiring": ((), ((0, 1),)), "hidden": {3: ((0, 1),)}}),
+    (runs.links_met, {"deed": ASKED, "asking": (1,)}), (runs.walk, {"deed": ASKED, "asking": (1,), "leaf": 0}),
+    (runs.Walk, {"stations": ((1, 0), (2, 0)), "leaf": 1}),
+    (entries.is_entry, {"form": ("both", A, B), "sets": {"a": 1, "b": 2}, "value": (0, 1)}),
+    (entries.all_entries, {"form": ("both", A, B), "sets": {"a": 3, "b": 2}}),
+    (entries.choice_of, {"ends": ENDS, "entry": ((0, 5), (5, 2), 2)}),
+    (entries.things_of, {"ends": ENDS, "entry": ((0, 5), (5, 2), 2)}),
+    (entries.entry_with, {"ends": ENDS, "choice": CHOICE, "things": [(5, 2), (0, 5), (3, 5), (4, 2)]}),
+    (meanings.meaning_of, {"wirings": TOLD, "sets": {"a": 2, "b": 1, "c": 3}}),
+    (meanings.meaning, {"deed": PAIR, "sets": {"a": 2, "b": 3}}), (meanings.fits, {"wirings": TOLD, "entry": ((0, 5), (5, 2), 2)}),
+    (meanings.entry_count, {"wirings": TOLD, "sets": {"a": 2, "b": 1, "c": 10 ** 20}}),
+    (meanings.joined_meaning, {"one": [(0, 1), (1, 2)], "other": [(1, 5), (2, 6)], "i": 1, "j": 0}),
+    (toldback.is_single, {"wirings": TOLD}), (toldback.told_back, {"ends": [A, anti("a")], "entries": [(1, 1), (0, 0)]}),
+    (search.all_wirings, {"ends": PICKED}), (search.count_unlike, {"ends": PICKED}), (search.has_deed, {"ends": PICKED}),
+    (search.some_deed, {"ends": PICKED}), (search.least_choices, {"ends": PICKED}), (search.most_choices, {"ends": PICKED}),
+    (midway.midway, {"deed": PAIR, "left": (0, 2)}), (midway.Midway, {"form": A, "one": Deed(LA), "other": Deed(LA)}),
+    (midway.middle_form, {"deed": PAIR, "left": (0, 2)}), (midway.crossing_goods, {"deed": PAIR, "left": (0, 2)}),
+    (midway.rejoined, {"deed": PAIR, "left": (0, 2)}),
+    (askings.askings_of, {"ends": PICKED}), (askings.answering, {"wirings": TOLD, "asking": (0,)}),
+    (askings.first_unanswered, {"wirings": TOLD}),
 ]
+# classes whose objects keep any values
+KEEPERS = (cuts.BadCut, runs.Answer, runs.Walk, midway.Midway)
+CLASSES = (Deed, Wirings) + KEEPERS
+# arguments that may be empty lists
+EMPTY = ((wirings.Wirings, "wirings"), (toldback.told_back, "entries"))
 
 
 def same(one, other):
@@ -54,7 +90,7 @@ def same(one, other):
         return False
     if isinstance(one, (list, tuple)):
         return len(one) == len(other) and all(same(x, y) for x, y in zip(one, other))
-    if isinstance(one, (Deed, Wirings, cuts.BadCut)):
+    if isinstance(one, CLASSES):
         return same(sorted(vars(one).items()), sorted(vars(other).items()))
     return one == other
 
@@ -88,7 +124,7 @@ class Arguments(unittest.TestCase):
                 self.assertEqual({name: state(value) for name, value in named.items()}, before)
 
     def test_errors_change_nothing(self):
-        for call, named in CALLS:
+        for call, named in [(call, named) for call, named in CALLS if call not in KEEPERS]:
             for name in named:
                 with self.subTest(call=call.__name__, name=name):
                     told = dict(named)
@@ -103,7 +139,7 @@ class Arguments(unittest.TestCase):
     def test_wrong_arguments_raise_bad_value(self):
         """Each argument but those of any kind; the first wrong one from left to right counts."""
         for call, named in CALLS:
-            if call in (deeds.Deed, cuts.BadCut):
+            if call == deeds.Deed or call in KEEPERS:
                 continue
             names = [name for name in named if name != "value"]
             for at, name in enumerate(names):
@@ -112,7 +148,7 @@ class Arguments(unittest.TestCase):
                     told[name] = wrong
                     for later in names[at + 1:]:
                         told[later] = object()
-                    if name == "wirings" and call is wirings.Wirings and wrong == ():
+                    if (call, name) in EMPTY and wrong == ():
                         continue
                     with self.subTest(call=call.__name__, name=name, wrong=repr(wrong)):
                         with self.assertRaises(BadValue) as caught:
@@ -121,17 +157,32 @@ class Arguments(unittest.TestCase):
 
     def test_lists_and_tuples(self):
         for call, named in CALLS:
-            for name in ("ends", "wirings", "order"):
-                if isinstance(named.get(name), list):
+            for name in ("ends", "wirings", "order", "lists", "deeds", "things", "one", "other", "entries", "left"):
+                if isinstance(named.get(name), (list, tuple)):
                     other = dict(named)
-                    other[name] = tuple(named[name])
-                    self.assertTrue(same(call(**other), call(**named)))
+                    other[name] = tuple(named[name]) if isinstance(named[name], list) else list(named[name])
+                    with self.subTest(call=call.__name__, name=name):
+                        self.assertTrue(same(call(**other), call(**named)))
+
+    def test_lists_that_stand_for_no_tuple(self):
+        """Forms, choices, entries, cuts and askings are tuples alone."""
+        for call, named in CALLS:
+            for name in ("form", "choice", "entry", "cut", "asking"):
+                if isinstance(named.get(name), tuple) and call not in KEEPERS:
+                    other = dict(named)
+                    other[name] = list(named[name])
+                    with self.subTest(call=call.__name__, name=name):
+                        with self.assertRaises(BadValue) as caught:
+                            call(**other)
+                        self.assertIs(caught.exception.value, other[name])
 
 
 def state(value):
     """The value with all that is in it, as a string that tells changes."""
-    if isinstance(value, (Deed, Wirings)):
-        return repr(sorted(vars(value).items()))
+    if isinstance(value, CLASSES):
+        return repr([(name, state(told)) for name, told in sorted(vars(value).items())])
+    if isinstance(value, list) and value and isinstance(value[0], Deed):
+        return repr([state(deed) for deed in value])
     return repr(value)
 
 
@@ -146,7 +197,15 @@ class Results(unittest.TestCase):
             "choices_of": tuple, "links_at": tuple, "turned_wirings": Wirings, "wirings_text": str, "read_wirings": Wirings,
             "wirings_of": Wirings, "alike": bool, "first_unlike": type(None), "parting": tuple, "nodes_of": tuple,
             "lines_of": tuple, "leaves_one_tree": bool, "bad_cut": cuts.BadCut, "BadCut": cuts.BadCut, "first_unsound": int,
-            "is_plain_link": bool, "takings": tuple, "taken": tuple,
+            "is_plain_link": bool, "takings": tuple, "taken": tuple, "comes_of_deed": bool, "stuck_at": Wirings, "deed_of": Deed,
+            "count_orders": int, "first_order": tuple, "handed": Wirings, "midways": tuple, "joined_row": Deed,
+            "ready_hands": tuple, "reduced": Deed, "without_hands": tuple, "answer": runs.Answer, "Answer": runs.Answer,
+            "links_met": tuple, "walk": runs.Walk, "Walk": runs.Walk, "is_entry": bool, "all_entries": list, "choice_of": tuple,
+            "things_of": tuple, "entry_with": tuple, "meaning_of": list, "meaning": list, "fits": tuple, "entry_count": int,
+            "joined_meaning": list, "is_single": bool, "told_back": Wirings, "all_wirings": tuple, "count_unlike": int,
+            "has_deed": bool, "some_deed": Deed, "least_choices": int, "most_choices": int, "midway": midway.Midway,
+            "Midway": midway.Midway, "middle_form": tuple, "crossing_goods": tuple, "rejoined": Deed, "askings_of": tuple,
+            "answering": tuple, "first_unanswered": tuple,
         }
         self.assertEqual(len(kinds), len(CALLS))
         for call, named in CALLS:
@@ -154,9 +213,28 @@ class Results(unittest.TestCase):
                 self.assertIs(type(call(**named)), kinds[call.__name__])
 
     def test_returned_lists_are_new(self):
-        first = formtexts.read_ends("a, b")
-        first.append(A)
-        self.assertEqual(formtexts.read_ends("a, b"), [A, B])
+        for call, named in CALLS:
+            first = call(**named)
+            if isinstance(first, list):
+                right = list(first)
+                first.append(A)
+                self.assertEqual(call(**named), right)
+        told = runs.answer(ASKED, (1,))
+        told.hidden.clear()
+        self.assertEqual(runs.answer(ASKED, (1,)).hidden, {6: ((0, 1),)})
+
+    def test_what_is_given_is_copied(self):
+        hidden, stations = {3: ()}, [(1, 0)]
+        answer, walk = runs.Answer(((), ()), hidden), runs.Walk(stations, 0)
+        hidden[4] = ()
+        stations.append(None)
+        self.assertEqual((answer.hidden, walk.stations), ({3: ()}, ((1, 0),)))
+
+    def test_objects_without_equality(self):
+        for call, named in CALLS:
+            if call in KEEPERS:
+                self.assertNotEqual(call(**named), call(**named))
+                self.assertTrue(same(call(**named), call(**named)))
 
     def test_size(self):
         self.assertEqual((PAIR.size(), type(PAIR.size())), (3, int))

@@ -21,8 +21,21 @@ INTERFACE = {
     "likeness": ["alike", "first_unlike", "parting"],
     "cuts": ["nodes_of", "lines_of", "leaves_one_tree", "bad_cut", "BadCut", "first_unsound"],
     "taking": ["is_plain_link", "takings", "taken"],
+    "back": ["comes_of_deed", "stuck_at", "deed_of"],
+    "orders": ["count_orders", "first_order"],
+    "handing": ["handed"],
+    "rows": ["midways", "joined_row"],
+    "reducing": ["ready_hands", "reduced", "without_hands"],
+    "runs": ["answer", "Answer", "links_met", "walk", "Walk"],
+    "entries": ["is_entry", "all_entries", "choice_of", "things_of", "entry_with"],
+    "meanings": ["meaning_of", "meaning", "fits", "entry_count", "joined_meaning"],
+    "toldback": ["is_single", "told_back"],
+    "search": ["all_wirings", "count_unlike", "has_deed", "some_deed", "least_choices", "most_choices"],
+    "midway": ["midway", "Midway", "middle_form", "crossing_goods", "rejoined"],
+    "askings": ["askings_of", "answering", "first_unanswered"],
 }
-METHODS = {"Deed": ["__init__", "__eq__", "size"], "Wirings": ["__init__", "__eq__"], "BadCut": ["__init__"]}
+METHODS = {"Deed": ["__init__", "__eq__", "size"], "Wirings": ["__init__", "__eq__"]}
+METHODS.update({name: ["__init__"] for name in ("BadCut", "Answer", "Walk", "Midway")})
 
 BUILTINS = set(
     "len range enumerate zip min max sum abs sorted reversed int str bool bytes list tuple dict set frozenset isinstance ord "
