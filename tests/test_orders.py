@@ -79,6 +79,32 @@ def tree_orders(one, other):
     return many
 
 
+def offered_comb(many, offers):
+    """Ends with so many goods, of which the first ones are offered, and the left comb of boths of all counters."""
+    steps = None
+    for k in range(many):
+        one = link(f"x{k}")
+        one = ("offer", one, one, 0, 0) if k < offers else ("turn", one, (1, 0))
+        # the counter, or the comb of all counters so far, stands first
+        steps = one if steps is None else ("both", steps, one, 0, 0)
+        ends = len(Deed(steps).ends)
+        steps = steps if k == 0 else ("turn", steps, (ends - 1,) + tuple(range(ends - 1)))
+    return Deed(steps)
+
+
+def comb_orders(offered, many, known):
+    """The number of its orders, where these goods are still offered, and so many stand in the comb."""
+    if (offered, many) not in known:
+        total = 1 if not offered and many == 1 else 0
+        for one in offered:
+            total += comb_orders(offered - {one}, many, known) ** 2
+        if many > 1:
+            last = comb_orders(frozenset([0] if many - 1 in offered else []), 1, known)
+            total += comb_orders(offered - {many - 1}, many - 1, known) * last
+        known[(offered, many)] = total
+    return known[(offered, many)]
+
+
 class Checks(unittest.TestCase):
     def check(self, wirings):
         many = slow_count(wirings, {})
@@ -136,6 +162,16 @@ class Count(Checks):
         self.assertEqual(halved_forms(trees.ends), 14)
         self.assertEqual(count_orders(trees), tree_orders(3, 3))
         self.assertEqual(tree_orders(3, 3), 20173952)
+
+    def test_very_great_numbers(self):
+        """Seven offers and seven boths: at each offer the orders of both sides multiply."""
+        for many, offers in [(2, 1), (2, 2), (3, 2)]:
+            self.assertEqual(self.check(wirings_of(offered_comb(many, offers))), comb_orders(frozenset(range(offers)), many, {}))
+        whole = wirings_of(offered_comb(8, 7))
+        self.assertEqual((halved_forms(whole.ends), len(whole.wirings)), (14, 128))
+        found = count_orders(whole)
+        self.assertEqual(found, comb_orders(frozenset(range(7)), 8, {}))
+        self.assertGreater(found, 10 ** 90)
 
     def test_plain_combs(self):
         """A both can be taken when the between across is: orders are ways to open and to close brackets."""
