@@ -2,7 +2,6 @@
 
 from alldeeds.deeds import steps_of
 from alldeeds.stepping import ends_in_order, ends_of_step, steps_within, taken_from, with_steps
-from alldeeds.turning import turning
 
 
 class Branch:
@@ -36,10 +35,14 @@ def tree_of(deed):
 
 
 def turned_branch(branch, order):
-    """The Branch with its ends in this order."""
-    within, around = turning(branch.steps, order)
-    inner = branch.within[0] if within else branch
-    return inner if around is None else branch_of(("turn", None, around), (inner,))
+    """The Branch with its ends in this order; a turn of a turn is one turn, or none if it changes nothing."""
+    unchanged = tuple(range(len(order)))
+    if order == unchanged:
+        return branch
+    if branch.steps[0] != "turn":
+        return branch_of(("turn", None, order), (branch,))
+    joined = tuple([branch.steps[2][end] for end in order])
+    return branch.within[0] if joined == unchanged else branch_of(("turn", None, joined), branch.within)
 
 
 def hand_numbers(branch, ahead):

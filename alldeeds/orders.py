@@ -1,11 +1,11 @@
 """The whole ways to take Wirings apart."""
 
-from alldeeds.weaving import Weave, first_taking, stuck_part, taken_apart, weave_of_deed
+from alldeeds.weaving import Weave, first_taking, taken_apart, weave_of_deed
 from alldeeds.wirings import check_wirings
 
 
 def orders_of(weave, part, counted):
-    """How many orders a Part has that comes of a deed; the dict has those that are counted already."""
+    """How many orders a Part has; the dict has those that are counted already."""
     if part.is_plain_link():
         return 1
     # the order of the ends has no meaning for the number
@@ -32,8 +32,6 @@ def count_orders(wirings):
     """The number of the orders of the Wirings."""
     check_wirings(wirings)
     weave = Weave(wirings)
-    if stuck_part(weave, weave.whole) is not None:
-        return 0
     return orders_of(weave, weave.whole, {})
 
 

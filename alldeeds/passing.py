@@ -16,14 +16,12 @@ def with_two_put(row, at, thing, other_at, other):
 
 
 def rows_within(step, row, many, halves):
-    """For each step within, the row of what its ends have, when those of the step have the row.
+    """For each step within, the row of what its ends have, when those of the step, which is no link, have the row.
 
     The first step within has so many ends. The halves are what the two ends have
     that are not ends of the step: those of which it makes its last end, or which it hands on.
     """
     word = step[0]
-    if word == "link":
-        return ()
     if word == "turn":
         return (tuple([row[step[2].index(end)] for end in range(many)]),)
     rest = row if word == "hand" else row[:-1]
@@ -36,10 +34,11 @@ def rows_within(step, row, many, halves):
 
 
 def rest_of_rows(step, rows):
-    """What the ends of the step have but the one that it makes, when those of the steps within have the rows."""
+    """What the ends of the step have but the one that it makes, when those of the steps within have the rows.
+
+    The step is no link and no turn.
+    """
     word = step[0]
-    if word == "turn":
-        return tuple([rows[0][end] for end in step[2]])
     if word == "between":
         return tuple([thing for at, thing in enumerate(rows[0]) if at not in step[2:]])
     if word == "choose":
@@ -50,7 +49,7 @@ def rest_of_rows(step, rows):
 
 
 def with_numbers(step, rows, halves):
-    """The step with the numbers of those ends that have the halves in the rows of the steps within."""
+    """The step, which has no numbers yet or others, with those of the ends that have the halves in the rows within."""
     word = step[0]
     if word == "between":
         return step[:2] + (rows[0].index(halves[0]), rows[0].index(halves[1]))

@@ -202,6 +202,18 @@ class Cases(Checks):
         self.check_form(two, (0,), "(a~ + a~) & (a~ + a~)")
         self.check_form(two, (1,), "(a & a) + (a & a)")
 
+    def test_offer_of_steps_that_differ_in_order(self):
+        """The two left deeds, and the two right deeds, come with their ends in unlike orders."""
+        other = ("turn", ("both", LB, LA, 0, 0), (1, 0, 2))
+        self.check_form(("offer", PAIR.steps, other, 2, 2), (0, 1), "(a * b) & (b * a)")
+        self.check_form(("offer", PAIR.steps, other, 2, 2), (2,), "(a~ | b~) + (b~ | a~)")
+        three = ("both", PAIR.steps, link("c"), 2, 0)
+        other = ("turn", ("both", link("c"), other, 0, 2), (1, 2, 0, 3))
+        self.assertEqual(ends_text(Deed(other).ends), "a~, b~, c~, c * (b * a)")
+        for left in partings_of(4):
+            self.check(Deed(("offer", three, other, 3, 3)), left)
+            self.check(Deed(("offer", other, three, 3, 3)), left)
+
     def test_order_of_parts(self):
         """one stands ahead of other in the middle, whatever the order of the ends is."""
         steps = ("both", link("c"), ("both", LA, LB, 0, 0), 0, 2)

@@ -140,6 +140,12 @@ class Facts(Checks):
         self.assertEqual(self.check(ends("a * a~")), 0)
         self.assertEqual(self.check(ends("a, a~, a | a~")), 0)
 
+    def test_offered_sides_whose_deeds_differ_in_order(self):
+        """What both sides of an offer are made of stands in unlike orders in the ends."""
+        for text in ["(a * b) & (b * a), a~, b~", "a~, (a * (b * c)) & ((c * a) * b), b~, c~", "(a * b) & ((b * a) & (a * b)), b~, a~",
+                     "b~ + a~, (a * b) & (b * a), (a~ + b~) * d, d~"]:
+            self.assertGreater(self.check(ends(text)), 0)
+
     def test_met_on_several_ways(self):
         """A set that can be taken at several ends counts once."""
         self.assertEqual(self.check(ends("a + b, a~ + b~")), 2)
