@@ -115,8 +115,6 @@ def missing_count(rows, groups, bounds):
     if not rows:
         return many_within([bounds[leaf] for leaf in sorted(set(list(groups.values())))])
     joined = joined_groups(groups, rows[0])
-    if joined == groups:
-        return 0
     return missing_count(rows[1:], groups, bounds) - missing_count(rows[1:], joined, bounds)
 
 

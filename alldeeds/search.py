@@ -12,23 +12,18 @@ def search_of(ends):
     return Search(ends)
 
 
-def sets_found(search):
-    """All sets of rows that come of a deed of the ends; TooMany if there are too many."""
-    if search.counts(search.whole) is None:
-        return []
-    return search.sets_of(search.whole)
-
-
 def all_wirings(ends):
     """The tuple of all Wirings of the ends that come of a deed, ascending by their wirings."""
     search = search_of(ends)
-    found = [Wirings(ends, [search.board.bits.wiring_of(row) for row in rows]) for rows in sets_found(search)]
+    sets = search.sets_of(search.whole)
+    found = [Wirings(ends, [search.board.bits.wiring_of(row) for row in rows]) for rows in sets]
     return tuple(sorted(found, key=lambda told: told.wirings))
 
 
 def count_unlike(ends):
     """How many Wirings of the ends come of a deed."""
-    return len(sets_found(search_of(ends)))
+    search = search_of(ends)
+    return len(search.sets_of(search.whole))
 
 
 def counts_found(ends):

@@ -168,13 +168,18 @@ class EmptyHanded(Checks):
         self.assertEqual(self.check(ends("a & b, (a~ + b~) * c, c~")), 1)
         self.assertEqual(self.check(ends("(a & b) * c, (a~ + b~) * d, c~ * d~")), 0)
         self.assertEqual(self.check(ends("(a & b) * c, a~ + b~, c~")), 1)
+        self.assertEqual(self.check(ends("(a & b) * c, (a~ * d) + (b~ * d), d~, c~")), 1)
+        self.assertEqual(self.check(ends("(a & b) * c, (a~ * d) + ((b~ * d) + (a~ * d)), d~, c~")), 2)
+        self.assertEqual(self.check(ends("c + ((a & b) * c), (a~ * d) + (b~ * d), d~, c~")), 1)
 
 
 class Numbers(Checks):
     def test_least_and_most(self):
         for text, least, most in [("a, a~", 1, 1), ("a & a, a~", 2, 2), ("a & b, a~ + b~", 2, 2), ("(a & a) & a, a~", 3, 3),
                                   ("a + (a & a), a~", 1, 2), ("(a & a) + (a & (a & a)), a~", 2, 3), ("a & a, a~ & a~", 4, 4),
-                                  ("a & (a + (a & a)), a~", 2, 3), ("a + (a & a), a~ + (a~ & a~)", 1, 4), ("a, a", None, None)]:
+                                  ("a & (a + (a & a)), a~", 2, 3), ("a + (a & a), a~ + (a~ & a~)", 1, 4), ("a, a", None, None),
+                                  ("(a + (a & a)) * (b + (b & b)), a~, b~", 1, 4), ("(a + (a & a)) & (a + (a & a)), a~", 2, 4),
+                                  ("(a + (a & a)) & (b + (a & a)), a~", 3, 4), ("(a + (a & a)) * (b + (b & (b & b))), a~, b~", 1, 6)]:
             self.assertEqual((least_choices(ends(text)), most_choices(ends(text))), (least, most))
             self.check(ends(text))
 
