@@ -110,6 +110,7 @@ class Board:
             cell.count(names)
             cell.pick(self.bits)
             self.cells[place.at] = cell
+        # half a field more than a number has the bit of the guard exactly if the number is not below 0
         self.guard = packed([HALF_FIELD] * (len(names) + 1))
         # in each choice of a deed the links are one more than the boths, and goods are as many as counters
         self.goal = packed([2] + [0] * len(names))
