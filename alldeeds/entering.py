@@ -3,6 +3,8 @@
 from alldeeds.formparts import FORK_WORDS, goods_of, is_leaf
 from alldeeds.values import is_integer, is_number_below, is_side, is_whole
 
+MOST_THINGS_LISTED = 3
+
 
 def fits_sets(value, forms):
     """Whether the value has a set of at least one thing for each good in the forms."""
@@ -10,6 +12,13 @@ def fits_sets(value, forms):
         return False
     names = [name for form in forms for name in goods_of(form)]
     return all([name in value and is_integer(value[name]) and value[name] > 0 for name in names])
+
+
+def fits_listed_sets(value, forms):
+    """Whether the value has sets for the goods in the forms that are small enough to list entries."""
+    if not fits_sets(value, forms):
+        return False
+    return all([value[name] <= MOST_THINGS_LISTED for form in forms for name in goods_of(form)])
 
 
 def fits_entry(form, sets, value):

@@ -1,7 +1,7 @@
 """Entries of forms and of ends over sets."""
 
 from alldeeds.checks import check_ends, check_form
-from alldeeds.entering import entry_of_ends, entry_parts, fits_entry, fits_entry_of_ends, fits_sets
+from alldeeds.entering import entry_of_ends, entry_parts, fits_entry, fits_entry_of_ends, fits_listed_sets, fits_sets
 from alldeeds.errors import BadValue, TooMany
 from alldeeds.formparts import FORK_WORDS, is_leaf
 from alldeeds.layouts import Layout, fits_choice, met_numbers
@@ -13,6 +13,12 @@ MOST_ENTRIES = 20000
 def check_sets(sets, forms):
     """Raises BadValue for what is no dict with sets for the goods of the forms."""
     if not fits_sets(sets, forms):
+        raise BadValue(sets)
+
+
+def check_listed_sets(sets, forms):
+    """Raises BadValue for what is no dict with sets for the goods of the forms over which entries are listed."""
+    if not fits_listed_sets(sets, forms):
         raise BadValue(sets)
 
 
@@ -44,7 +50,7 @@ def listed_entries(form, sets):
 def all_entries(form, sets):
     """The ascending list of all entries of the form over the sets."""
     check_form(form)
-    check_sets(sets, [form])
+    check_listed_sets(sets, [form])
     if entry_total(form, sets) > MOST_ENTRIES:
         raise TooMany(MOST_ENTRIES)
     return listed_entries(form, sets)

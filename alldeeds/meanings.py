@@ -2,7 +2,7 @@
 
 from alldeeds.deeds import check_deed
 from alldeeds.entering import entry_of_ends, entry_parts, fits_entry_of_ends
-from alldeeds.entries import MOST_ENTRIES, check_sets
+from alldeeds.entries import MOST_ENTRIES, check_listed_sets, check_sets
 from alldeeds.errors import BadValue, TooMany
 from alldeeds.layouts import Layout, met_numbers
 from alldeeds.stepping import without
@@ -72,14 +72,14 @@ def listed_meaning(wirings, sets):
 def meaning_of(wirings, sets):
     """The ascending list of the entries of the meaning of the Wirings."""
     check_wirings(wirings)
-    check_sets(sets, wirings.ends)
+    check_listed_sets(sets, wirings.ends)
     return listed_meaning(wirings, sets)
 
 
 def meaning(deed, sets):
     """The ascending list of the entries of the meaning of the Deed."""
     check_deed(deed)
-    check_sets(sets, deed.ends)
+    check_listed_sets(sets, deed.ends)
     return listed_meaning(wirings_of(deed), sets)
 
 

@@ -104,16 +104,24 @@ class AllEntries(unittest.TestCase):
 
     def test_20000_and_more(self):
         """20,000 entries are told, one more is too many."""
-        pair = ("both", A, B)
-        for sets, many in [({"a": 100, "b": 200}, 20000), ({"a": 20000, "b": 1}, 20000), ({"a": 160, "b": 125}, 20000)]:
-            found = all_entries(pair, sets)
-            self.assertEqual((len(found), found[0], found[-1]), (many, (0, 0), (sets["a"] - 1, sets["b"] - 1)))
-        self.assertEqual(len(all_entries(A, {"a": 20000})), 20000)
-        for form, sets in [(A, {"a": 20001}), (pair, {"a": 20001, "b": 1}), (("offered", A, B), {"a": 20000, "b": 1}), (A, {"a": BIG}),
-                           (bushy(4), {"a": 2}), (bushy(5, "between"), {"a": 3})]:
-            self.assertEqual(raised(all_entries, form, sets), ("TooMany", {"most": 20000}))
-        self.assertEqual(len(all_entries(("chosen", A, B), {"a": 19999, "b": 1})), 20000)
+        fork, sets = ("offered", A, B), {"a": 2, "b": 3, "z": 1}
+        form = fork
+        for part in [fork] * 3 + [A] * 5:
+            form = ("both", form, part)
+        found = all_entries(form, sets)
+        self.assertEqual((len(found), len(set(found))), (20000, 20000))
+        self.assertEqual(found, sorted(found))
+        for more in [("offered", form, good("z")), ("between", form, A), bushy(4, leaf=B), bushy(5, "between")]:
+            self.assertEqual(raised(all_entries, more, sets), ("TooMany", {"most": 20000}))
+        self.assertEqual(len(all_entries(("both", form, good("z")), sets)), 20000)
         self.assertEqual(len(all_entries(bushy(5, "offered"), {"a": 3})), 96)
+
+    def test_sets_of_three_things_at_most(self):
+        """[29]: where entries are listed; ahead of TooMany, and only for goods that occur."""
+        for form, sets in [(A, {"a": 4}), (A, {"a": BIG}), (BOTH, {"a": 1, "b": 4}), (FORK, {"a": 3, "b": 4}),
+                           (bushy(5), {"a": 4}), (("counter", "a"), {"a": 4, "b": 1})]:
+            self.assertEqual(raised(all_entries, form, sets), ("BadValue", {"value": sets}))
+        self.assertEqual(all_entries(A, {"a": 3, "b": 4}), [0, 1, 2])
 
     def test_new_each_time(self):
         first = all_entries(A, {"a": 2})

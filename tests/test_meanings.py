@@ -107,20 +107,46 @@ class OfWirings(unittest.TestCase):
         self.check(shifts, {"a": 3})
 
     def test_20000_entries_and_more(self):
-        plain = told("a, a~", [PLAIN])
-        self.assertEqual(len(meaning_of(plain, {"a": 20000})), 20000)
-        for some, sets in [(plain, {"a": 20001}), (plain, {"a": BIG}), (PICK, {"a": 10001}),
-                           (told("a, a~, b, b~", [((), ((0, 1), (2, 3)))]), {"a": 200, "b": 101})]:
-            self.assertEqual(raised(meaning_of, some, sets), ("TooMany", {"most": 20000}))
-        self.assertEqual(len(meaning_of(PICK, {"a": 10000})), 20000)
+        """20,000 entries, and one more by a fork with one link on its other side."""
+        steps = plain_deed(read_form("a & b")).steps
+        for text in ["a & b"] * 3 + ["a"] * 5:
+            steps = ("both", steps, plain_deed(read_form(text)).steps, 0, 0)
+        many = wirings_of(Deed(steps))
+        sets = {"a": 2, "b": 3, "c": 1}
+        self.assertEqual(len(meaning_of(many, sets)), 20000)
+        self.assertEqual(raised(meaning_of, many, {"a": 3, "b": 3}), ("TooMany", {"most": 20000}))
+        rows = list(many.ends)
+        while len(rows) > 2:
+            rows = [("between", rows[0], rows[1])] + rows[2:-1] + [rows[-1]] if len(rows) % 2 else [
+                ("between", rows[k], rows[k + 1]) for k in range(0, len(rows), 2)]
+        whole = ("between", rows[0], rows[1])
+        shifted = [(((0, 0),) + tuple((fork + 1, side) for fork, side in choice), links) for choice, links in many.wirings]
+        forked = [("offered", whole, read_form("c | c~"))]
+        other = (((0, 1),), ((26, 27),))
+        self.assertEqual(len(meaning_of(Wirings(forked, shifted), sets)), 20000)
+        self.assertEqual(raised(meaning_of, Wirings(forked, shifted + [other]), sets), ("TooMany", {"most": 20000}))
+        self.assertEqual(len(meaning_of(Wirings(forked, shifted[1:] + [other]), {**sets, "c": 3})), 19491)
 
     def test_equal_entries_count_once(self):
-        """24,000 pairs of a wiring and an entry, but 18,000 entries; 20,001 of them are too many."""
-        rows = [((), ((0, 2), (1, 3), (4, 5))), ((), ((0, 3), (1, 2), (4, 5)))]
-        two = told("a, a, a~, a~, b, b~", rows)
-        self.assertEqual(len(meaning_of(two, {"a": 2, "b": 3000})), 18000)
-        self.assertEqual(raised(meaning_of, two, {"a": 2, "b": 3334}), ("TooMany", {"most": 20000}))
-        self.assertEqual(len(meaning_of(two, {"a": 2, "b": 3333})), 19998)
+        """23,328 pairs of a wiring and an entry, but 19,440 entries; 21,870 of them are too many."""
+        def two(many_b, many_c):
+            text = ", ".join(["a, a, a~, a~"] + ["b, b~"] * many_b + ["c, c~"] * many_c)
+            more = tuple((k, k + 1) for k in range(4, 4 + 2 * (many_b + many_c), 2))
+            return told(text, [((), ((0, 2), (1, 3)) + more), ((), ((0, 3), (1, 2)) + more)])
+
+        self.assertEqual(len(meaning_of(two(4, 4), {"a": 3, "b": 2, "c": 3})), 19440)
+        self.assertEqual(raised(meaning_of, two(1, 6), {"a": 3, "b": 2, "c": 3}), ("TooMany", {"most": 20000}))
+
+    def test_sets_of_three_things_at_most(self):
+        """[29]: where entries are listed; ahead of TooMany, and only for goods that occur."""
+        plain = told("a, a~", [PLAIN])
+        wide = told(", ".join(["a, a~"] * 10), [((), tuple((2 * k, 2 * k + 1) for k in range(10)))])
+        for some in (plain, wide, PICK, told("a, a~", [])):
+            for sets in ({"a": 4}, {"a": BIG, "b": 1}):
+                self.assertEqual(raised(meaning_of, some, sets), ("BadValue", {"value": sets}))
+                self.assertEqual(raised(meaning, Deed(LA), sets), ("BadValue", {"value": sets}))
+        self.assertEqual(meaning_of(plain, {"a": 1, "b": BIG}), [(0, 0)])
+        self.assertEqual(meaning(Deed(LA), {"a": 1, "b": BIG}), [(0, 0)])
 
     def test_ascending_and_once(self):
         for some in drawn_wirings(303, 60):
@@ -158,15 +184,18 @@ class OfDeeds(unittest.TestCase):
             self.assertEqual(sorted(set(steps_meaning(deed.steps, {"a": 2, "b": 2, "c": things}))), meaning(deed, {"a": 2, "b": 2}))
 
     def test_too_many(self):
-        self.assertEqual(len(meaning(Deed(LA), {"a": 20000})), 20000)
-        self.assertEqual(raised(meaning, Deed(LA), {"a": 20001}), ("TooMany", {"most": 20000}))
+        steps = plain_deed(A).steps
+        for _ in range(8):
+            steps = ("both", steps, LA, 0, 0)
+        self.assertEqual(len(meaning(Deed(steps), {"a": 3})), 3 ** 9)
+        self.assertEqual(raised(meaning, Deed(("both", steps, LA, 0, 0)), {"a": 3}), ("TooMany", {"most": 20000}))
         steps = ("turn", OFFER, (1, 0))
         for k in range(10):
             steps = ("both", steps, OFFER, k + 1, 0)
         many = Deed(steps)
         self.assertEqual(raised(wirings_of, many), ("TooMany", {"most": 2000}))
         self.assertEqual(raised(meaning, many, {"a": 1}), ("TooMany", {"most": 2000}))
-        self.assertEqual(raised(meaning, many, {"a": BIG}), ("TooMany", {"most": 2000}))
+        self.assertEqual(raised(meaning, many, {"a": 4}), ("BadValue", {"value": {"a": 4}}))
         self.assertEqual(raised(meaning, many, {}), ("BadValue", {"value": {}}))
 
     def test_alike_exactly_if_the_meanings_are_the_same(self):
