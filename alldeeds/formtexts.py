@@ -5,11 +5,20 @@ from alldeeds.formparts import is_leaf
 from alldeeds.formreading import take_ends, take_form, told_ends, told_form
 from alldeeds.reading import Reader
 
-WORD_SIGNS = {"both": "*", "between": "|", "offered": "&", "chosen": "+"}
+WORD_SIGNS = {
+    "both": "*",
+    "between": "|",
+    "offered": "&",
+    "chosen": "+",
+    "pair": "*",
+    "sum": "+",
+    "offer": "&",
+    "to": "->",
+}
 
 
 def written(form):
-    """The text of what is known to be a form."""
+    """The text of what is known to be a form or a kind."""
     if form[0] == "good":
         return form[1]
     if form[0] == "counter":
@@ -18,7 +27,7 @@ def written(form):
 
 
 def written_half(form):
-    """The text of a form that is a half."""
+    """The text of a form or a kind that is a half."""
     if is_leaf(form):
         return written(form)
     return "(" + written(form) + ")"

@@ -66,6 +66,13 @@ class Reader:
             self.at += 1
         return self.text[start:self.at]
 
+    def next_run(self):
+        """The letters and digits that stand next, behind a letter; they are not read."""
+        end = self.at
+        while end < len(self.text) and (self.text[end] in LETTERS or self.text[end] in DIGITS and end > self.at):
+            end += 1
+        return self.text[self.at:end]
+
     def take_digits(self):
         """The digits that stand next, perhaps none."""
         start = self.at

@@ -442,3 +442,23 @@ def small_ends(chance, most_leaves, most_forks, names="a", depth=2):
         ends = tuple(random_form(chance, depth, names) for _ in range(chance.randrange(1, 4)))
         if len(leaf_list(ends)) <= most_leaves and len(fork_list(ends)) <= most_forks:
             return ends
+
+
+def put_together(steps, many):
+    """The first ends, so many, put into one by betweens."""
+    steps = ("between", steps, 0, 1)
+    for _ in range(many - 2):
+        steps = ("between", steps, len(Deed(steps).ends) - 1, 0)
+    return steps
+
+
+def passed_on(many):
+    """The plain deed of so many goods, each of which is offered and chosen within; there are 2 ** many wirings on the way."""
+    offer = ("offer", link("a"), link("a"), 0, 0)
+    choose = ("choose", link("a"), 1, 0, anti("a"))
+    offers, chosen = offer, ("turn", choose, (1, 0))
+    for k in range(1, many):
+        offers = ("both", offers, offer, k, 1)
+        chosen = ("both", chosen, choose, k, 0)
+    hand = ("hand", offers, put_together(chosen, many), many, 1)
+    return Deed(put_together(hand, many))

@@ -3,8 +3,10 @@ import copy
 import inspect
 import unittest
 
-from alldeeds import (askings, back, cuts, deeds, deedtexts, ends, entries, forms, formtexts, handing, likeness, meanings, midway,
-                      orders, reducing, rows, runs, search, taking, toldback, wired, wirelines, wirings)
+from alldeeds import (askings, back, checking, cuts, deeds, deedtexts, ends, entries, flatforms, forms, formtexts, handing, kinds,
+                      likeness, meanings, midway, orders, programtexts, reducing, rows, runs, sameforms, search, taking, toldback,
+                      undoing, wired, wirelines, wirings)
+from alldeeds.checking import Program
 from alldeeds.deeds import Deed
 from alldeeds.errors import BadValue, DeedError
 from alldeeds.formtexts import read_ends
@@ -26,6 +28,11 @@ TWICE = Deed(("hand", LA, LA, 1, 0))
 CHOOSE = Deed(("hand", OFFER.steps, ("choose", LA, 1, 1, anti("a")), 1, 1))
 ASKED = Deed(("both", CHOOSE.steps, OFFER.steps, 0, 0))
 PICKED = read_ends("a & a, a~ + a~")
+SHARED, SPREAD = read_ends("a * (b + b), (a * b) + (b * a)")
+TO = ("to", A, B)
+INPUTS = [("f", TO), ("x", A)]
+APPLIED = ("apply", ("name", "f"), ("name", "x"))
+PROGRAM = Program(INPUTS, APPLIED)
 
 # each function and class with a right call, its arguments by their names
 CALLS = [
@@ -74,14 +81,25 @@ CALLS = [
     (midway.midway, {"deed": PAIR, "left": (0, 2)}), (midway.Midway, {"form": A, "one": Deed(LA), "other": Deed(LA)}),
     (midway.middle_form, {"deed": PAIR, "left": (0, 2)}), (midway.crossing_goods, {"deed": PAIR, "left": (0, 2)}),
     (midway.rejoined, {"deed": PAIR, "left": (0, 2)}),
+    (flatforms.flat_of, {"form": SHARED}), (flatforms.same_forms, {"one": SHARED, "other": SPREAD}), (flatforms.is_flat, {"value": A}),
+    (flatforms.form_of, {"flat": ("both", (A, B))}), (flatforms.choice_count, {"form": SHARED}), (flatforms.flat_leaves, {"form": SHARED}),
+    (undoing.is_plain_deed, {"deed": PAIR}), (undoing.undo_each_other, {"there": Deed(LA), "back": Deed(LA)}),
+    (sameforms.both_ways, {"one": SHARED, "other": SPREAD}), (sameforms.way_count, {"one": SHARED, "other": SPREAD}),
+    (sameforms.ways, {"one": SHARED, "other": SPREAD}), (sameforms.changed_end, {"deed": PAIR, "number": 2, "form": ("both", B, A)}),
+    (kinds.is_kind, {"value": A}), (kinds.form_of_kind, {"kind": TO}), (kinds.kind_of_form, {"form": ("both", A, B)}),
+    (kinds.kind_taken, {"form": ("between", anti("a"), anti("b"))}), (kinds.kind_text, {"kind": TO}), (kinds.read_kind, {"text": "a->b"}),
+    (kinds.goods_in, {"kind": TO}), (programtexts.is_term, {"value": ("name", "x")}), (programtexts.term_text, {"term": APPLIED}),
+    (programtexts.read_program, {"text": "x : a ; x"}), (programtexts.program_text, {"inputs": INPUTS, "term": APPLIED}),
+    (checking.Program, {"inputs": INPUTS, "term": APPLIED}),
     (askings.askings_of, {"ends": PICKED}), (askings.answering, {"wirings": TOLD, "asking": (0,)}),
     (askings.first_unanswered, {"wirings": TOLD}),
 ]
 # classes whose objects keep any values
 KEEPERS = (cuts.BadCut, runs.Answer, runs.Walk, midway.Midway)
-CLASSES = (Deed, Wirings) + KEEPERS
+CLASSES = (Deed, Wirings, Program) + KEEPERS
 # arguments that may be empty lists
-EMPTY = ((wirings.Wirings, "wirings"), (toldback.told_back, "entries"))
+EMPTY = ((wirings.Wirings, "wirings"), (toldback.told_back, "entries"), (programtexts.program_text, "inputs"),
+         (checking.Program, "inputs"))
 
 
 def same(one, other):
@@ -157,17 +175,17 @@ class Arguments(unittest.TestCase):
 
     def test_lists_and_tuples(self):
         for call, named in CALLS:
-            for name in ("ends", "wirings", "order", "lists", "deeds", "things", "one", "other", "entries", "left"):
-                if isinstance(named.get(name), (list, tuple)):
+            for name in ("ends", "wirings", "order", "lists", "deeds", "things", "one", "other", "entries", "left", "inputs"):
+                if isinstance(named.get(name), (list, tuple)) and named[name] not in (SHARED, SPREAD):
                     other = dict(named)
                     other[name] = tuple(named[name]) if isinstance(named[name], list) else list(named[name])
                     with self.subTest(call=call.__name__, name=name):
                         self.assertTrue(same(call(**other), call(**named)))
 
     def test_lists_that_stand_for_no_tuple(self):
-        """Forms, choices, entries, cuts and askings are tuples alone."""
+        """Forms, choices, entries, cuts, askings, kinds and terms are tuples alone."""
         for call, named in CALLS:
-            for name in ("form", "choice", "entry", "cut", "asking"):
+            for name in ("form", "choice", "entry", "cut", "asking", "flat", "kind", "term"):
                 if isinstance(named.get(name), tuple) and call not in KEEPERS:
                     other = dict(named)
                     other[name] = list(named[name])
@@ -205,7 +223,11 @@ class Results(unittest.TestCase):
             "joined_meaning": list, "is_single": bool, "told_back": Wirings, "all_wirings": tuple, "count_unlike": int,
             "has_deed": bool, "some_deed": Deed, "least_choices": int, "most_choices": int, "midway": midway.Midway,
             "Midway": midway.Midway, "middle_form": tuple, "crossing_goods": tuple, "rejoined": Deed, "askings_of": tuple,
-            "answering": tuple, "first_unanswered": tuple,
+            "answering": tuple, "first_unanswered": tuple, "flat_of": tuple, "same_forms": bool, "is_flat": bool, "form_of": tuple,
+            "choice_count": int, "flat_leaves": int, "is_plain_deed": bool, "undo_each_other": bool, "both_ways": tuple,
+            "way_count": int, "ways": list, "changed_end": Deed, "is_kind": bool, "form_of_kind": tuple, "kind_of_form": tuple,
+            "kind_taken": tuple, "kind_text": str, "read_kind": tuple, "goods_in": tuple, "is_term": bool, "term_text": str,
+            "read_program": tuple, "program_text": str, "Program": Program,
         }
         self.assertEqual(len(kinds), len(CALLS))
         for call, named in CALLS:

@@ -258,6 +258,38 @@ SEARCH = r"""
 [None, True, False, 2, 1]
 """
 
+FLATFORMS = r"""
+>>> from alldeeds.flatforms import choice_count, flat_leaves, flat_of, form_of, is_flat, same_forms
+>>> shared = read_form("(b + c) * a")
+>>> flat_of(shared)
+('chosen', (('both', (('good', 'a'), ('good', 'b'))), ('both', (('good', 'a'), ('good', 'c')))))
+>>> [form_text(form_of(flat_of(shared))), choice_count(shared), flat_leaves(shared)]
+['(a * b) + (a * c)', 2, 4]
+>>> [same_forms(shared, read_form("(c * a) + (b * a)")), same_forms(read_form("a"), read_form("a & a")), is_flat(flat_of(shared)), is_flat(shared)]
+[True, False, True, False]
+"""
+
+UNDOING = r"""
+>>> from alldeeds.undoing import is_plain_deed, undo_each_other
+>>> two = read_form("a * a")
+>>> turned = Deed(("between", ("both", ("link", "a"), ("link", "a"), 0, 0), 1, 0))
+>>> [turned.ends == plain_deed(two).ends, is_plain_deed(turned), is_plain_deed(plain_deed(two)), undo_each_other(turned, turned), undo_each_other(turned, plain_deed(two))]
+[True, False, True, True, False]
+"""
+
+SAMEFORMS = r"""
+>>> from alldeeds.sameforms import both_ways, changed_end, way_count, ways
+>>> there, back = both_ways(shared, read_form("(a * b) + (a * c)"))
+>>> [undo_each_other(there, back), both_ways(two, read_form("a | a"))]
+[True, None]
+>>> [way_count(two, two), len(ways(two, two)), way_count(read_form("(a * a) + (a * a)"), read_form("(a * a) + (a * a)")), way_count(two, shared)]
+[2, 2, 8, 0]
+>>> [way.wirings for way in ways(read_form("a * b"), read_form("b * a"))]
+[(((), ((0, 3), (1, 2))),)]
+>>> [form_text(end) for end in changed_end(turned, 0, two).ends]
+['a * a', 'a~ | a~']
+"""
+
 MIDWAY = r"""
 >>> from alldeeds.midway import crossing_goods, middle_form, midway, rejoined
 >>> deed = Deed(("both", ("link", "a"), ("link", "b"), 0, 0))
@@ -285,6 +317,25 @@ ASKINGS = r"""
 ((1,), ())
 """
 
+PROGRAMS = r"""
+>>> from alldeeds.kinds import read_kind, form_of_kind, kind_of_form
+>>> form_text(form_of_kind(read_kind("a -> (b * c)")))
+'a~ | (b * c)'
+>>> [kind_of_form(read_form("a | b")), kind_of_form(read_form("a~ | b"))]
+[None, ('to', ('good', 'a'), ('good', 'b'))]
+>>> read_kind("a -> b -> c")
+raises NotAText(at=7)
+>>> from alldeeds.checking import Program
+>>> from alldeeds.programtexts import program_text, read_program
+>>> inputs, term = read_program("x : a * b ; let y, z = x in (z, y)")
+>>> [Program(inputs, term).kind, Program(inputs, term).kind_at((1, 0)), Program(inputs, term).names_at((1,))]
+[('pair', ('good', 'b'), ('good', 'a')), ('good', 'b'), ('y', 'z')]
+>>> Program((("x", ("good", "a")),), ("pair", ("name", "x"), ("name", "x")))
+raises WrongTerm(path=(1,))
+>>> read_program("x : a ; fn let : b . x")
+raises NotAText(at=14)
+"""
+
 SECTIONS = [
     ("[61] forms", FORMS),
     ("[62] formtexts", FORMTEXTS),
@@ -307,8 +358,12 @@ SECTIONS = [
     ("[79] meanings", MEANINGS),
     ("[80] toldback", TOLDBACK),
     ("[81] search", SEARCH),
+    ("[82] flatforms", FLATFORMS),
+    ("[83] undoing", UNDOING),
+    ("[84] sameforms", SAMEFORMS),
     ("[85] midway", MIDWAY),
     ("[87] askings", ASKINGS),
+    ("[92] programs", PROGRAMS),
 ]
 
 

@@ -32,9 +32,16 @@ INTERFACE = {
     "toldback": ["is_single", "told_back"],
     "search": ["all_wirings", "count_unlike", "has_deed", "some_deed", "least_choices", "most_choices"],
     "midway": ["midway", "Midway", "middle_form", "crossing_goods", "rejoined"],
+    "flatforms": ["flat_of", "same_forms", "is_flat", "form_of", "choice_count", "flat_leaves"],
+    "undoing": ["is_plain_deed", "undo_each_other"],
+    "sameforms": ["both_ways", "way_count", "ways", "changed_end"],
+    "kinds": ["is_kind", "form_of_kind", "kind_of_form", "kind_taken", "kind_text", "read_kind", "goods_in"],
     "askings": ["askings_of", "answering", "first_unanswered"],
+    "programtexts": ["is_term", "term_text", "read_program", "program_text"],
+    "checking": ["Program"],
 }
 METHODS = {"Deed": ["__init__", "__eq__", "size"], "Wirings": ["__init__", "__eq__"]}
+METHODS["Program"] = ["__init__", "__eq__", "text", "kind_at", "names_at"]
 METHODS.update({name: ["__init__"] for name in ("BadCut", "Answer", "Walk", "Midway")})
 
 BUILTINS = set(
