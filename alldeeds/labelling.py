@@ -44,3 +44,10 @@ def offer_of(one, other, halves, made):
 def choose_of(one, halves, side, form, made):
     """The choose of the half on this side, beside the form."""
     return made_of(("choose", one.steps, None, side, form), (one.labels,), halves, made)
+
+
+def hand_of(one, other, halves):
+    """The hand on of two ends."""
+    rows = (one.labels, other.labels)
+    numbered = with_numbers(("hand", one.steps, other.steps), rows, halves)
+    return Labelled(numbered, rest_of_rows(numbered, rows))

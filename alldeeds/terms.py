@@ -1,4 +1,4 @@
-"""What terms and inputs of programs are made of; the functions trust nothing."""
+"""What terms and inputs of programs are made of; those functions that say "value" trust nothing."""
 
 from alldeeds.errors import BadValue
 from alldeeds.formparts import DEEPEST, fits_name
@@ -53,6 +53,22 @@ def fits_term(value):
             return False
         waiting.extend([told for slot, told in pairs if slot == "part"])
     return True
+
+
+def names_in_term(term):
+    """The list of all names in the term, as often as they occur."""
+    names = []
+    for slot, told in slots_of(term):
+        if slot == "name":
+            names.append(told)
+        elif slot == "part":
+            names.extend(names_in_term(told))
+    return names
+
+
+def with_parts(term, change):
+    """The term with what the change tells for each of its parts."""
+    return term[:1] + tuple([change(told) if slot == "part" else told for slot, told in slots_of(term)])
 
 
 def is_input(value):
