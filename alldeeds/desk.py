@@ -28,34 +28,26 @@ NO_FUNCTIONS = (
 )
 
 
-class State:
-    """A file, and the tuple of the promises in the order in which they were made."""
+def item_named(file, name):
+    """The item of the file with this name."""
+    if not isinstance(name, str):
+        raise BadValue(name)
+    table = items_by_name(file)
+    if name not in table:
+        raise Unknown(name)
+    return table[name]
 
-    def __init__(self, file, promises):
-        self.file = file
-        self.promises = promises
-        self.table = items_by_name(file)
 
-    def item(self, name):
-        """The item with this name."""
-        if not isinstance(name, str):
-            raise BadValue(name)
-        if name not in self.table:
-            raise Unknown(name)
-        return self.table[name]
-
-    def is_same_for(self, promise, other):
-        """Whether the promise is made in the other State, too, and the items that it names are the same there."""
+def check_promises(state, before):
+    """Raises Broken for the first promise of the state that does not hold; all those of the state before hold there."""
+    table, old = [items_by_name(file) for file, _ in (state, before)]
+    for promise in state[1]:
         names = [told for told in promise[1:] if isinstance(told, str)]
-        return promise in other.promises and all([self.table.get(name) == other.table.get(name) for name in names])
-
-    def check_promises(self, before):
-        """Raises Broken for the first promise that does not hold; in the State before all promises hold."""
-        for promise in self.promises:
-            if not self.is_same_for(promise, before):
-                holds, paper = answered(self.table, promise)
-                if not holds:
-                    raise Broken(promise_text(promise), paper)
+        if promise in before[1] and all([table.get(name) == old.get(name) for name in names]):
+            continue
+        holds, paper = answered(table, promise)
+        if not holds:
+            raise Broken(promise_text(promise), paper)
 
 
 def with_items(file, items):
@@ -76,19 +68,24 @@ def with_other_name(promises, name, new):
 
 
 class Desk:
-    """A file and promises; the past has the States to go back to, the future those that were left so, the next one last."""
+    """A file and promises.
+
+    A state is a pair of the file and the tuple of the promises in their order. The
+    past has the states to go back to, the last one first, the future those that
+    were left so.
+    """
 
     def __init__(self, text=""):
-        self.state = State(read_file(text), ())
+        self.state = (read_file(text), ())
         self.past = ()
         self.future = ()
         self.depth = 0
 
     def change(self, file, promises):
         """An edit that leads to the file and the promises."""
-        state = State(file, promises)
+        state = (file, promises)
         if self.depth == 0:
-            state.check_promises(self.state)
+            check_promises(state, self.state)
         self.past = self.past + (self.state,)
         self.future = ()
         self.state = state
@@ -96,12 +93,14 @@ class Desk:
     def put(self, text):
         """Puts the items of the text of a file in the places of those with their names, or behind the last one."""
         items = read_file(text)
-        self.change(with_items(self.state.file, items), self.state.promises)
+        file, made = self.state
+        self.change(with_items(file, items), made)
 
     def drop(self, name):
         """Takes the item with this name away."""
-        gone = self.state.item(name)
-        self.change(tuple([item for item in self.state.file if item != gone]), self.state.promises)
+        file, made = self.state
+        gone = item_named(file, name)
+        self.change(tuple([item for item in file if item != gone]), made)
 
     def rename(self, name, new):
         """Gives the item with this name a new one, in the promises, too."""
@@ -109,28 +108,29 @@ class Desk:
             raise BadValue(name)
         if not fits_name(new):
             raise BadValue(new)
-        old = self.state.item(name)
-        if new in self.state.table:
+        file, made = self.state
+        old = item_named(file, name)
+        if new in items_by_name(file):
             raise Taken(new)
-        file = [item if item != old else item[:1] + (new,) + item[2:] for item in self.state.file]
-        self.change(tuple(file), with_other_name(self.state.promises, name, new))
+        renamed = [item if item != old else item[:1] + (new,) + item[2:] for item in file]
+        self.change(tuple(renamed), with_other_name(made, name, new))
 
     def keep(self, promise):
         """Makes the promise of the text."""
         told = read_promise(promise)
-        made = self.state.promises
-        self.change(self.state.file, made if told in made else made + (told,))
+        file, made = self.state
+        self.change(file, made if told in made else made + (told,))
 
     def release(self, promise):
         """Takes the promise of the text back."""
         told = read_promise(promise)
-        made = self.state.promises
+        file, made = self.state
         if told not in made:
             raise NotMade(promise_text(told))
-        self.change(self.state.file, tuple([other for other in made if other != told]))
+        self.change(file, tuple([other for other in made if other != told]))
 
     def attempt(self, action):
-        """What the function returns; all that it does at the desk is one edit, or nothing if it raises an error."""
+        """What the function returns; all that it does at the desk is one edit, or nothing if an error is raised."""
         if action.__class__.__name__ in NO_FUNCTIONS:
             raise BadValue(action)
         state, past, future, depth = self.state, self.past, self.future, self.depth
@@ -141,7 +141,7 @@ class Desk:
         try:
             told = action(self)
             if depth == 0:
-                self.state.check_promises(state)
+                check_promises(self.state, state)
             ended = True
         finally:
             self.past = past
@@ -171,23 +171,23 @@ class Desk:
 
     def lines(self):
         """The text of its file."""
-        return written_file(self.state.file)
+        return written_file(self.state[0])
 
     def names(self):
         """The tuple of the names of its items, in order."""
-        return tuple([item[1] for item in self.state.file])
+        return tuple([item[1] for item in self.state[0]])
 
     def promises(self):
         """The list of the texts of its promises, in order."""
-        return [promise_text(promise) for promise in self.state.promises]
+        return [promise_text(promise) for promise in self.state[1]]
 
     def deed(self, name):
         """The Deed of the deed or program with this name."""
-        deed = deed_of_item(self.state.item(name))
+        deed = deed_of_item(item_named(self.state[0], name))
         if deed is None:
             raise Unknown(name)
         return deed
 
     def ask(self, promise):
         """Whether the promise of the text holds, and its paper."""
-        return answered(self.state.table, read_promise(promise))
+        return answered(items_by_name(self.state[0]), read_promise(promise))

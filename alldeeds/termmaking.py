@@ -106,7 +106,7 @@ MAKERS = {
 
 
 def named(term, names, numbers):
-    """The term with names in the place of numbers: those told, and new ones, in the order of its text, for bound ones."""
+    """The term with names in the place of numbers: those told, and new ones in the order of its text for bound ones."""
     slots = SLOTS[term[0]]
     if term[0] == "name":
         return ("name", names[term[1]])

@@ -1,5 +1,13 @@
-"""Programs to test with, drawn term by term; nothing here uses the program."""
+"""Programs to test with, drawn term by term, and slow ways to tell what they do.
+
+Little here uses the program: the class Deed, by which right steps are known.
+"""
+import itertools
 import random
+
+from alldeeds.deeds import Deed
+from alldeeds.errors import DeedError
+from making import counter_of, form_entries, leaf_list
 
 WORDS = ("let", "in", "fn", "case", "of", "or", "left", "right", "first", "second")
 SLOTS = {
@@ -235,3 +243,102 @@ def grown_programs(seed, many, most_terms=12, most_leaves=12, kind_depth=2, name
 def words_in(programs):
     """The words of all terms of the programs."""
     return {term_at(term, path)[0] for _, term in programs for path in all_paths(term)}
+
+
+def form_of(kind):
+    """The form of a kind."""
+    if len(kind) == 2:
+        return kind
+    one, other = form_of(kind[1]), form_of(kind[2])
+    if kind[0] == "to":
+        return ("between", counter_of(one), other)
+    return ({"pair": "both", "sum": "chosen", "offer": "offered"}[kind[0]], one, other)
+
+
+def term_results(term, things, entries_of):
+    """The set of what comes of a term, where its names have these entries; entries_of lists those of a kind."""
+    word, rest = term[0], term[1:]
+
+    def told(part, **more):
+        return term_results(part, {**things, **more}, entries_of)
+
+    if word == "name":
+        return {things[rest[0]]}
+    if word in ("pair", "apply"):
+        one, other = told(rest[0]), told(rest[1])
+        if word == "pair":
+            return {(u, v) for u in one for v in other}
+        return {r for u, r in one if u in other}
+    if word == "let":
+        return {r for u, v in told(rest[2]) for r in told(rest[3], **{rest[0]: u, rest[1]: v})}
+    if word == "fn":
+        return {(u, r) for u in entries_of(rest[1]) for r in told(rest[2], **{rest[0]: u})}
+    if word in ("left", "right"):
+        return {(("left", "right").index(word), r) for r in told(rest[0])}
+    if word == "case":
+        return {r for side, u in told(rest[0]) for r in told(rest[2 + 2 * side], **{rest[1 + 2 * side]: u})}
+    if word == "ways":
+        return {(side, r) for side in (0, 1) for r in told(rest[side])}
+    return {r for side, r in told(rest[0]) if side == ("first", "second").index(word)}
+
+
+def slow_results(inputs, term, sets, given):
+    """The ascending list of the results of a program for the entries that are given for its inputs."""
+    things = {name: entry for (name, _), entry in zip(inputs, given)}
+    return sorted(term_results(term, things, lambda kind: form_entries(form_of(kind), sets)))
+
+
+def program_meaning(inputs, term, sets):
+    """The ascending list of the entries of a program's ends: one for each input, and a result for these."""
+    found = []
+    for given in itertools.product(*[form_entries(form_of(kind), sets) for _, kind in inputs]):
+        found += [given + (result,) for result in slow_results(inputs, term, sets, given)]
+    return sorted(found)
+
+
+def is_given(form):
+    if len(form) == 2:
+        return form[0] == "good"
+    return (is_taken(form[1]) if form[0] == "between" else is_given(form[1])) and is_given(form[2])
+
+
+def is_taken(form):
+    return is_given(counter_of(form))
+
+
+def program_steps(chance, pool, names):
+    """Steps made of deeds of the pool whose ends may be those of a program; right or wrong."""
+    one, other = chance.choice(pool), chance.choice(pool)
+    i, j = chance.randrange(len(one.ends)), chance.randrange(len(other.ends))
+    word = chance.choice(("both", "both", "between", "between", "offer", "offer", "choose", "turn"))
+    if word == "both":
+        return ("both", one.steps, other.steps, i, j)
+    if word == "between":
+        return ("between", one.steps, i, chance.randrange(len(one.ends)))
+    if word == "choose":
+        form = form_of(random_kind(chance, 1, names))
+        return ("choose", one.steps, i, chance.randrange(2), form if is_given(one.ends[i]) else counter_of(form))
+    if word == "turn":
+        order = list(range(len(one.ends)))
+        chance.shuffle(order)
+        return ("turn", one.steps, tuple(order))
+    fitting = [("offer", one.steps, two.steps, i, j) for two in pool for i in range(len(one.ends)) for j in range(len(two.ends))
+               if one.ends[:i] + one.ends[i + 1:] == two.ends[:j] + two.ends[j + 1:]
+               and is_given(one.ends[i]) == is_given(two.ends[j])]
+    return chance.choice(fitting) if fitting else ("link", chance.choice(names))
+
+
+def deeds_of_programs(seed, many, most_steps=24, most_leaves=12, names="ab"):
+    """So many deeds without hand ons, all of whose ends are given or taken."""
+    chance = random.Random(seed)
+    pool = [Deed(("link", name)) for name in names]
+    while len(pool) < many:
+        try:
+            deed = Deed(program_steps(chance, pool, names))
+        except DeedError:
+            continue
+        if deed.size() > most_steps or len(leaf_list(deed.ends)) > most_leaves or deed in pool:
+            continue
+        if all(is_given(end) or is_taken(end) for end in deed.ends):
+            pool.append(deed)
+    return pool

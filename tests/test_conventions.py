@@ -3,11 +3,12 @@ import copy
 import inspect
 import unittest
 
-from alldeeds import (askings, back, checking, cuts, deeds, deedtexts, ends, entries, flatforms, forms, formtexts, handing, kinds,
-                      likeness, meanings, midway, orders, programtexts, reducing, rows, runs, sameforms, search, taking, toldback,
-                      undoing, wired, wirelines, wirings)
+from alldeeds import (askings, back, checking, cuts, deeds, deedtexts, desk, ends, entries, files, flatforms, forms, formtexts, handing,
+                      kinds, likeness, meanings, midway, orders, programdeeds, programs, programtexts, promises, questions, readback,
+                      reducing, rows, runs, sameforms, search, taking, toldback, undoing, wired, wirelines, wirings)
 from alldeeds.checking import Program
 from alldeeds.deeds import Deed
+from alldeeds.desk import Desk
 from alldeeds.errors import BadValue, DeedError
 from alldeeds.formtexts import read_ends
 from alldeeds.wirings import Wirings
@@ -33,6 +34,10 @@ TO = ("to", A, B)
 INPUTS = [("f", TO), ("x", A)]
 APPLIED = ("apply", ("name", "f"), ("name", "x"))
 PROGRAM = Program(INPUTS, APPLIED)
+ORDERED = Program([("x", A), ("y", A)], ("pair", ("name", "x"), ("name", "y")))
+TURNED = Program([("x", A), ("y", A)], ("pair", ("name", "y"), ("name", "x")))
+FILE = (("ends", "e", (A, anti("a"))), ("deed", "s", ("both", LA, LA, 0, 0)), ("deed", "c", ("turn", ("both", LA, LA, 0, 0), (1, 0, 2))),
+        ("program", "p", tuple(INPUTS), APPLIED))
 
 # each function and class with a right call, its arguments by their names
 CALLS = [
@@ -90,16 +95,24 @@ CALLS = [
     (kinds.kind_taken, {"form": ("between", anti("a"), anti("b"))}), (kinds.kind_text, {"kind": TO}), (kinds.read_kind, {"text": "a->b"}),
     (kinds.goods_in, {"kind": TO}), (programtexts.is_term, {"value": ("name", "x")}), (programtexts.term_text, {"term": APPLIED}),
     (programtexts.read_program, {"text": "x : a ; x"}), (programtexts.program_text, {"inputs": INPUTS, "term": APPLIED}),
-    (checking.Program, {"inputs": INPUTS, "term": APPLIED}),
+    (checking.Program, {"inputs": INPUTS, "term": APPLIED}), (programdeeds.deed_of_program, {"program": PROGRAM}),
+    (readback.program_of_deed, {"deed": PAIR}), (programs.plain_program, {"program": PROGRAM}),
+    (programs.alike_programs, {"one": PROGRAM, "other": PROGRAM}),
+    (programs.parting_programs, {"one": ORDERED, "other": TURNED}),
+    (programs.results, {"program": PROGRAM, "sets": {"a": 2, "b": 3}, "given": [(1, 2), 1]}),
+    (programs.composed, {"one": PROGRAM, "other": Program([("y", B)], ("name", "y")), "name": "y"}),
+    (files.read_file, {"text": "ends e\na"}), (files.file_text, {"file": FILE}), (files.deeds_of, {"file": FILE}),
+    (promises.promise_text, {"promise": ("has", "e", 1)}), (promises.read_promise, {"text": "e has 1"}),
+    (questions.asked, {"file": FILE, "promise": ("alike", "s", "c")}), (desk.Desk, {"text": "deed d\nlink a"}),
     (askings.askings_of, {"ends": PICKED}), (askings.answering, {"wirings": TOLD, "asking": (0,)}),
     (askings.first_unanswered, {"wirings": TOLD}),
 ]
 # classes whose objects keep any values
 KEEPERS = (cuts.BadCut, runs.Answer, runs.Walk, midway.Midway)
-CLASSES = (Deed, Wirings, Program) + KEEPERS
+CLASSES = (Deed, Wirings, Program, Desk) + KEEPERS
 # arguments that may be empty lists
 EMPTY = ((wirings.Wirings, "wirings"), (toldback.told_back, "entries"), (programtexts.program_text, "inputs"),
-         (checking.Program, "inputs"))
+         (checking.Program, "inputs"), (files.file_text, "file"), (files.deeds_of, "file"), (questions.asked, "file"))
 
 
 def same(one, other):
@@ -175,7 +188,7 @@ class Arguments(unittest.TestCase):
 
     def test_lists_and_tuples(self):
         for call, named in CALLS:
-            for name in ("ends", "wirings", "order", "lists", "deeds", "things", "one", "other", "entries", "left", "inputs"):
+            for name in ("ends", "wirings", "order", "lists", "deeds", "things", "one", "other", "entries", "left", "inputs", "given", "file", "promise"):
                 if isinstance(named.get(name), (list, tuple)) and named[name] not in (SHARED, SPREAD):
                     other = dict(named)
                     other[name] = tuple(named[name]) if isinstance(named[name], list) else list(named[name])
@@ -227,7 +240,10 @@ class Results(unittest.TestCase):
             "choice_count": int, "flat_leaves": int, "is_plain_deed": bool, "undo_each_other": bool, "both_ways": tuple,
             "way_count": int, "ways": list, "changed_end": Deed, "is_kind": bool, "form_of_kind": tuple, "kind_of_form": tuple,
             "kind_taken": tuple, "kind_text": str, "read_kind": tuple, "goods_in": tuple, "is_term": bool, "term_text": str,
-            "read_program": tuple, "program_text": str, "Program": Program,
+            "read_program": tuple, "program_text": str, "Program": Program, "deed_of_program": Deed, "program_of_deed": Program,
+            "plain_program": Program, "alike_programs": bool, "parting_programs": tuple, "results": list, "composed": Program,
+            "read_file": tuple, "file_text": str, "deeds_of": dict, "promise_text": str, "read_promise": tuple, "asked": tuple,
+            "Desk": Desk,
         }
         self.assertEqual(len(kinds), len(CALLS))
         for call, named in CALLS:

@@ -334,6 +334,31 @@ raises NotAText(at=7)
 raises WrongTerm(path=(1,))
 >>> read_program("x : a ; fn let : b . x")
 raises NotAText(at=14)
+>>> from alldeeds.programdeeds import deed_of_program
+>>> wirings_of(deed_of_program(Program(inputs, term))).wirings
+(((), ((0, 3), (1, 2))),)
+>>> from alldeeds.programs import plain_program, results
+>>> both = Program(*read_program("x : a + a ; case x of y . y or z . (fn w : a . w) z"))
+>>> plain_program(both).text()
+'x1 : a + a ; case x1 of y1 . y1 or y2 . y2'
+>>> results(Program(inputs, term), {"a": 2, "b": 2}, [(0, 1)])
+[(1, 0)]
+>>> from alldeeds.programs import alike_programs, composed
+>>> alike_programs(both, plain_program(both))
+True
+>>> composed(Program(*read_program("w : b ; w")), Program(*read_program("y : a, z : b ; (z, y)")), "z").text()
+'w : b, y : a ; (w, y)'
+>>> from alldeeds.readback import program_of_deed
+>>> program_of_deed(Deed(("both", ("link", "a"), ("link", "b"), 0, 1))).text()
+'x1 : a, x2 : a -> b ; x2 x1'
+"""
+
+PROMISES = r"""
+>>> from alldeeds.promises import promise_text, read_promise
+>>> [read_promise(" x has  2 "), promise_text(("open", "e"))]
+[('has', 'x', 2), 'e open']
+>>> read_promise("x has 02")
+raises BadPromise(promise='x has 02')
 """
 
 SECTIONS = [
@@ -364,6 +389,7 @@ SECTIONS = [
     ("[85] midway", MIDWAY),
     ("[87] askings", ASKINGS),
     ("[92] programs", PROGRAMS),
+    ("[94] promises", PROMISES),
 ]
 
 

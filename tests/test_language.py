@@ -39,9 +39,18 @@ INTERFACE = {
     "askings": ["askings_of", "answering", "first_unanswered"],
     "programtexts": ["is_term", "term_text", "read_program", "program_text"],
     "checking": ["Program"],
+    "programdeeds": ["deed_of_program"],
+    "readback": ["program_of_deed"],
+    "programs": ["plain_program", "alike_programs", "parting_programs", "results", "composed"],
+    "files": ["read_file", "file_text", "deeds_of"],
+    "promises": ["promise_text", "read_promise"],
+    "questions": ["asked"],
+    "desk": ["Desk"],
 }
 METHODS = {"Deed": ["__init__", "__eq__", "size"], "Wirings": ["__init__", "__eq__"]}
 METHODS["Program"] = ["__init__", "__eq__", "text", "kind_at", "names_at"]
+METHODS["Desk"] = ["__init__", "put", "drop", "rename", "keep", "release", "attempt", "undo", "redo", "lines", "names", "promises", "deed",
+                   "ask"]
 METHODS.update({name: ["__init__"] for name in ("BadCut", "Answer", "Walk", "Midway")})
 
 BUILTINS = set(
