@@ -32,10 +32,10 @@ def take_leaf(reader, words):
 def take_sign(reader, words, begins):
     """The word of the sign between two halves that stands next; the signs begin with these."""
     first = reader.take(begins)
-    sign = [sign for sign in words if sign[0] == first][0]
-    for more in sign[1:]:
+    told = [sign for sign in words if sign[0] == first][0]
+    for more in told[1:]:
         reader.take(more)
-    return words[sign]
+    return words[told]
 
 
 def grouped(half, other):

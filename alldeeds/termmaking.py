@@ -110,8 +110,10 @@ def named(term, names, numbers):
     slots = SLOTS[term[0]]
     if term[0] == "name":
         return ("name", names[term[1]])
-    bound = [told for slot, told in zip(slots, term[1:]) if slot == "name"]
-    within = {**names, **{one: f"y{numbers.fresh(1)[0] + 1}" for one in bound}}
+    within = dict(names)
+    for slot, one in zip(slots, term[1:]):
+        if slot == "name":
+            within[one] = f"y{numbers.fresh(1)[0] + 1}"
     told = [term[0]]
     for slot, one in zip(slots, term[1:]):
         if slot == "name":

@@ -56,6 +56,11 @@ class Kinds(unittest.TestCase):
         for word in SIGNS:
             self.assertIs(is_kind(bushy(12, word)), True)
             self.assertIs(is_kind(bushy(13, word)), False)
+        for at in (1, 2):
+            kind = A
+            for depth in range(1, 14):
+                kind = ("sum", kind, B) if at == 1 else ("sum", B, kind)
+                self.assertIs(is_kind(kind), depth <= 12)
         kind = ("to", bushy(11, "pair"), bushy(11, "sum"))
         self.assertEqual(kind_of_form(form_of_kind(kind)), kind)
         deep = A
