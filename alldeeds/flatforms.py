@@ -2,7 +2,7 @@
 
 from alldeeds.checks import check_form
 from alldeeds.errors import BadValue, TooDeep, TooMany
-from alldeeds.flats import MOST_FLAT_DEPTH, depth_of_grouped, fits_flat, flat_at, flat_size, form_grouped
+from alldeeds.flats import MOST_FLAT_DEPTH, fits_flat, fits_grouped, flat_at, flat_size, form_grouped
 from alldeeds.formparts import DEEPEST, choice_total
 from alldeeds.layouts import Layout
 
@@ -39,7 +39,7 @@ def form_of(flat):
     """The form in which the first two parts are grouped, then these and the next one, and so on."""
     if not fits_flat(flat, MOST_FLAT_DEPTH):
         raise BadValue(flat)
-    if depth_of_grouped(flat) > DEEPEST:
+    if not fits_grouped(flat, DEEPEST):
         raise TooDeep(DEEPEST)
     return form_grouped(flat)
 

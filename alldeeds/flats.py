@@ -93,8 +93,10 @@ def fits_flat(value, room):
         return fits_name(parts)
     if word not in PART_WORDS or room == 0 or not isinstance(parts, tuple) or len(parts) < 2:
         return False
-    if not all([fits_flat(part, room - 1) for part in parts]):
-        return False
+    for at, part in enumerate(parts):
+        # one of equal parts is looked at: a value in which one tuple stands often would take too long
+        if (at == 0 or part != parts[at - 1]) and not fits_flat(part, room - 1):
+            return False
     barred = (word, SHARING_WORDS.get(word, word))
     return list(parts) == sorted(parts) and not any([part[0] in barred for part in parts])
 
@@ -104,14 +106,15 @@ def is_flat_leaf(flat):
     return isinstance(flat[1], str)
 
 
-def depth_of_grouped(flat):
-    """The depth of the form in which the parts are grouped."""
+def fits_grouped(flat, room):
+    """Whether the form in which the parts are grouped has this depth at most."""
     if is_flat_leaf(flat):
-        return 0
-    deepest = depth_of_grouped(flat[1][0])
-    for part in flat[1][1:]:
-        deepest = 1 + max(deepest, depth_of_grouped(part))
-    return deepest
+        return True
+    parts = flat[1]
+    if len(parts) - 1 > room:
+        return False
+    # the last part is a half of the form, the first two stand side by side
+    return all([fits_grouped(part, room - len(parts) + max(at, 1)) for at, part in enumerate(parts)])
 
 
 def form_grouped(flat):

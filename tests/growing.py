@@ -110,7 +110,7 @@ class Grower:
 
     def anew(self, one):
         """The same program with other names."""
-        names = {name: self.fresh() for name in set(names_of(one.term))}
+        names = {name: self.fresh() for name in sorted(set(names_of(one.term)))}
         return Grown({names[name]: one.inputs[name] for name in one.inputs}, renamed(one.term, names), one.kind)
 
     def draw(self, fits=lambda one: True):

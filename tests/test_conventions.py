@@ -217,6 +217,60 @@ def state(value):
     return repr(value)
 
 
+# the methods of objects that are new each time, with right arguments by their names
+METHOD_CALLS = [
+    (lambda: Deed(LA), "size", {}), (lambda: PROGRAM, "text", {}), (lambda: PROGRAM, "kind_at", {"path": (1,)}),
+    (lambda: PROGRAM, "names_at", {"path": ()}),
+] + [
+    (lambda: Desk("deed d\nlink a\nends e\na, a~"), name, named) for name, named in [
+        ("put", {"text": "ends f\na"}), ("drop", {"name": "d"}), ("rename", {"name": "d", "new": "z"}), ("keep", {"promise": "d plain"}),
+        ("attempt", {"action": Desk.lines}), ("lines", {}), ("names", {}), ("promises", {}), ("deed", {"name": "d"}),
+        ("ask", {"promise": "e has 1"})]
+]
+
+
+def desk_with_more():
+    """A desk with a promise and something to undo and to redo."""
+    told = Desk("deed d\nlink a")
+    told.keep("d plain")
+    told.put("")
+    told.put("")
+    told.undo()
+    return told
+
+
+METHOD_CALLS += [(desk_with_more, "release", {"promise": "d plain"}), (desk_with_more, "undo", {}), (desk_with_more, "redo", {})]
+
+
+class Methods(unittest.TestCase):
+    def test_by_position_and_by_name(self):
+        for made, name, named in METHOD_CALLS:
+            with self.subTest(name=name):
+                ways = [(list(named.values()), {}), ([], named), ([], dict(reversed(list(named.items())))),
+                        (list(named.values())[:1], dict(list(named.items())[1:]))]
+                told = []
+                for values, keywords in ways:
+                    one = made()
+                    told.append((getattr(one, name)(*values, **keywords), one))
+                for one in told[1:]:
+                    self.assertTrue(same(one, told[0]))
+                self.assertRaises(TypeError, getattr(made(), name), *named.values(), None)
+
+    def test_all_methods(self):
+        self.assertEqual(len(METHOD_CALLS), 17)
+        for made, name, named in METHOD_CALLS:
+            self.assertEqual(list(inspect.signature(getattr(made(), name)).parameters), list(named))
+
+    def test_without_a_result(self):
+        for made, name, named in METHOD_CALLS:
+            silent = name in ("put", "drop", "rename", "keep", "release", "undo", "redo")
+            self.assertIs(getattr(made(), name)(**named) is None, silent)
+
+    def test_desk_without_a_text(self):
+        self.assertTrue(same(Desk(), Desk(text="")))
+        self.assertTrue(same(Desk(), Desk("")))
+
+
 class Results(unittest.TestCase):
     def test_kinds(self):
         kinds = {

@@ -255,6 +255,18 @@ class IsFlat(unittest.TestCase):
             self.assertIs(is_flat(chain(24, words)), True)
             self.assertIs(is_flat(chain(25, words)), False)
         self.assertIs(is_flat(chain(3000)), False)
+        self.assertIs(is_flat(("both", (chain(3000), chain(3000)))), False)
+
+    def test_one_tuple_that_stands_often(self):
+        flat = A
+        for k in range(24):
+            flat = (("both", "between")[k % 2], (flat, flat))
+        self.assertIs(is_flat(flat), True)
+        self.assertEqual(raised(form_of, flat), ("TooDeep", {"most": 12}))
+        self.assertIs(is_flat(("both", (flat, flat))), False)
+        for wrong in (None, ["good", "a"], ("good", "A"), ("chosen", (A, A))):
+            self.assertIs(is_flat(("both", (wrong, wrong))), False)
+            self.assertIs(is_flat(("both", (A, A, wrong, wrong))), False)
 
     def test_flat_forms_with_a_part_changed(self):
         chance = random.Random(406)

@@ -121,6 +121,14 @@ class Asked(unittest.TestCase):
             else:
                 self.assertIsNone(answer[1])
 
+    def test_same_asks_for_one_form_each(self):
+        table = {"one": "a * b", "turned": "b * a", "two": "b * a, c", "more": "a * b, c"}
+        file = tuple([("ends", name, tuple(read_ends(table[name]))) for name in table])
+        for one in table:
+            for other in table:
+                holds = one in ("one", "turned") and other in ("one", "turned")
+                self.assertIs(asked(file, ("same", one, other))[0], holds)
+
     def test_apart(self):
         for name in DEEDS:
             many = count_orders(wirings_of(DEEDS[name]))
